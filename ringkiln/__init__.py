@@ -1,0 +1,1 @@
+"""Ringkiln: a brick works whose fire goes round a ring of chambers."""
