@@ -133,11 +133,17 @@ def load_seen(make, load):
     return tuple([(kind, count, min(stood, make[KINDS][kind][STAY])) for kind, count, stood in load])
 
 
-def seen_from(works, number):
-    """What is seen from the CHAMBER of number, once round the ring."""
-    make, chambers, _ = tupled(works)
-    need_chamber(chambers, number)
+def seen_in(works, number):
+    """What is seen from the CHAMBER of number in a WORKS, a tuple, once round the ring."""
+    make, chambers, _ = works
     seen = []
     for load, heat, _, coal, wicket, damper, screen in chambers[number:] + chambers[:number]:
         seen.append((load_seen(make, load), heat, coal, wicket, damper, screen))
     return tuple(seen)
+
+
+def seen_from(works, number):
+    """What is seen from the CHAMBER of number, once round the ring."""
+    own = tupled(works)
+    need_chamber(own[1], number)
+    return seen_in(own, number)

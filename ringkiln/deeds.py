@@ -67,6 +67,13 @@ def door_wanted(deed):
     return SCREEN, deed[2]
 
 
+def part_touched(deed):
+    """The pair (part, number) of what a DEED is done to: of doors the words that FAULTS have for them."""
+    if deed[0] in ("brick", "open"):
+        return "wicket", deed[1]
+    return deed[:2]
+
+
 def is_load_for(word, load):
     """Whether a load is such that set, draw or clear can be done to it."""
     if word == "set":

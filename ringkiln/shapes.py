@@ -18,6 +18,8 @@ DAMPER = 5
 SCREEN = 6
 PARTS = ("load", "heat", "top", "coal", "wicket", "damper", "screen")
 
+NOUGHTS = (0, 0, 0, 0, 0, 0, 0)
+
 TICKS = 0
 FLUE = 1
 EARTHED = 2
@@ -64,3 +66,13 @@ def replaced(row, at, value):
 def grown(row, at, more):
     """The row, a tuple of numbers, with so much more at this place."""
     return replaced(row, at, row[at] + more)
+
+
+def number_sets(many):
+    """All sets of numbers below many, those of fewest members first, then by comparison."""
+    sets = []
+    longer = [()]
+    while longer != []:
+        sets.extend(longer)
+        longer = [row + (last,) for row in longer for last in range(row[-1] + 1 if row != () else 0, many)]
+    return sets

@@ -34,6 +34,55 @@ FIRES = (PLAN, LONG, over(KILN, rules=(), told=(), many=9), over(KILN, rules=(),
 WITH_DEEDS = tuple(over(works, deed=deed) for works in (KILN, RING) for deed in DEEDS + (
     ("draw", 0), ("coal", 1, ()), ("set", 0, ((0, 5), (1, 6))), ("set", 0, ((2, 5),)), ("clear", 3), ("damper", 1, True), ("open", 9)))
 
+RULED = (dict(PLAN), dict(LONG), {"works": KILN, "rules": (), "many": 3}, {"works": KILN, "rules": FEED, "many": 0})
+RULED = tuple({name: plan[name] for name in ("works", "rules", "many")} for plan in RULED)
+BY = tuple({name: plan[name] for name in ("works", "rules")} for plan in RULED)
+RULE = (0, (("set",), ("from", 3)), ("coal", (4, 5)))
+
+# Small WORKS: a FIRE that goes round, one that stays, one that dies, one that is out, one that piles up.
+CRAFT = (((12, 1, 90),), 0, 8, 8, 1000, 0)
+COLD = (None, 0, 0, (), False, False, False)
+FOUR = ((None, 6, 0, (), True, False, False), (None, 24, 0, (), False, False, False),
+        (None, 10, 0, (), False, True, False), (None, 2, 0, (), True, True, False))
+LEAD = ((0, (("pieces", 1),), ("coal", (10,))), (-1, (), ("open",)), (1, (), ("brick",)), (0, (), ("damper", False)),
+        (2, (), ("damper", True)))
+ROUND = (CRAFT, FOUR, NOUGHTS)
+TWO = (CRAFT, FOUR * 2, NOUGHTS)
+STOVE = (((900, 1, 900),), 0, 4, 4, 900, 4)
+LIT, DARK = (((0, 3, 0),), 8, 8, (), True, True, True), (None, 0, 0, (), False, False, True)
+OVEN = (STOVE, (LIT, DARK, DARK), NOUGHTS)
+OUT = (STOVE, (DARK, DARK, DARK), NOUGHTS)
+FUEL = ((0, (("pieces", 1),), ("coal", (6,))),)
+HOARD = (STOVE[:5] + (0,), ((None, 8, 0, (), False, False, True), DARK, DARK), NOUGHTS)
+PILING = ((0, (), ("wood", 1)),)
+SEEN = (((0, 3, 0),), 8, (), True, True, True), (None, 0, (), False, False, True), (None, 0, (), False, False, True)
+STEADY = ({"works": ROUND, "rules": LEAD}, {"works": TWO, "rules": LEAD}, {"works": ROUND, "rules": LEAD[1:]},
+          {"works": OUT, "rules": FUEL}, {"works": HOARD, "rules": PILING}, {"works": OVEN, "rules": FUEL})
+PATTERN = {"make": CRAFT, "pattern": FOUR, "filler": COLD, "many": 8}
+TAKEN = (((), ((0, ("coal", (6,))),), ((0, ("brick",)), (1, ("set", ((0, 4),))))), ((), ((-1, ("damper", False)),)))
+CHOSEN = tuple(over(works, rules=(), choices=choices) for works in (OVEN, OUT) for choices in TAKEN) + (
+    over(HOARD, rules=PILING, choices=TAKEN[1]), over(OVEN, rules=FUEL, choices=TAKEN[1]))
+KEPT = ((SEEN, 1),)
+STILL_RUNS = tuple(over(works, rules=rules, many=many) for works in (OVEN, OUT) for rules in ((), FUEL)
+                   for many in (1, 6))
+LASTING = tuple(over(works, rules=rules, most=most) for works in (OVEN, OUT) for rules in ((), FUEL)
+                for most in (0, 1)) + (over(HOARD, rules=PILING, most=0),)
+PLAY = (KILN, FEED, TOLD, 3)
+UNKNOWN = (((1, (5, 9)), (2, (4, 7, 8))), (None, ("damp", 1), ("leak", 0)))
+FITS = tuple({"play": PLAY, "unknown": UNKNOWN, "readings": readings}
+             for readings in ((), ((2, 10),), ((2, 99), (0, 0)), ((3, 1),)))
+CASES = ((KILN, None), (KILN, ("damp", 1)), (KILN, ("wicket", 0)), (RING[:1] + KILN[1:], ("leak", 2)))
+CASE = {"rules": FEED, "told": TOLD, "many": 3}
+LOOKS = (("heat", 1, 1), ("flue", 2), ("coal", 2, 1), ("top", 3, 2))
+LOOKED = tuple({"cases": CASES[:many], "rules": FEED, "told": TOLD, "looks": looks}
+               for many in (1, 2, 4) for looks in (LOOKS, LOOKS[:1], LOOKS + (("heat", 1, 3),)))
+PARTED = tuple({"cases": CASES, "rules": FEED, "told": TOLD, "look": look} for look in LOOKS + (("coal", 1, -1),))
+
+
+def each(plans, **more):
+    return tuple(dict(plan, **more) for plan in plans)
+
+
 CALLS = {
     "is_kind": ({"thing": BRICK},),
     "is_make": ({"thing": MAKE},),
@@ -117,7 +166,111 @@ CALLS = {
     "jumps": FIRES,
     "goes_out": FIRES,
     "cause_of": FIRES,
+    "is_rules": ({"make": MAKE, "thing": FEED},),
+    "acts_now": BY,
+    "ruled": BY,
+    "run_by": RULED,
+    "used_at": each(RULED, number=0) + each(RULED, number=5),
+    "never_used": RULED,
+    "without_rule": ({"rules": FEED, "number": 1}, {"rules": FEED, "number": -1}),
+    "with_rule": ({"rules": FEED, "number": 3, "rule": RULE}, {"rules": FEED, "number": 4, "rule": RULE}),
+    "clash_of": RULED,
+    "first_unlike": each(RULED, other=FILL) + each(RULED, other=()),
+    "lean_rules": RULED,
+    "needless_tests": each(RULED, number=0) + each(RULED, number=-1),
+    "is_steady": STEADY,
+    "steady_paper": STEADY,
+    "is_steady_paper": each(STEADY, thing=(0, 2, 1)) + each(STEADY, thing=[0, 2, 1]),
+    "out_paper": STEADY,
+    "is_out_paper": each(STEADY, thing=3) + each(STEADY, thing=None),
+    "far_works": each(STEADY, many=10 ** 30) + each(STEADY, many=1),
+    "fronts_far": each(STEADY, many=10 ** 30) + each(STEADY, many=1),
+    "round_ledger": STEADY,
+    "hottest_ever": STEADY,
+    "comes_seen": each(STEADY[:1], other=(CRAFT, FOUR[1:] + FOUR[:1], NOUGHTS)) + each(STEADY[3:5], other=OVEN),
+    "rings_steady": each(STEADY[:5], filler=DARK),
+    "least_ring": each(STEADY[:5], filler=DARK),
+    "least_heat_for": each(STEADY[:5], number=0) + each(STEADY[:1], number=4),
+    "apart": BOTH + ({"works": TWO},),
+    "apart_row": RULED + each(STEADY[:2], many=5),
+    "stay_two": STEADY,
+    "pair_paper": STEADY,
+    "is_pair_paper": each(STEADY, thing=(0, 2, 1)) + each(STEADY, thing=None),
+    "lone_paper": STEADY,
+    "is_lone_paper": each(STEADY, thing=0) + each(STEADY, thing=False),
+    "how_lone": STEADY,
+    "nearest_ever": STEADY,
+    "fires_for_ever": STEADY,
+    "one_draught": (over(KILN, one=0, two=2), over(KILN, one=3, two=9), over(RING, one=2, two=-1)),
+    "starved_row": RULED + each(STEADY[:2], many=3),
+    "pair_works": tuple(dict(PATTERN, far=far) for far in (4, 3, 8, -1)),
+    "fars_that_stay": tuple(dict(PATTERN, rules=rules) for rules in (LEAD, LEAD[1:], ())),
+    "most_fires": tuple(dict(PATTERN, rules=rules) for rules in (LEAD, LEAD[1:], ())),
+    "are_choices": ({"thing": TAKEN[0]},),
+    "chosen_tick": each(CHOSEN, number=1) + each(CHOSEN, number=5),
+    "seen_of": BOTH,
+    "can_keep": CHOSEN,
+    "kept_lot": CHOSEN,
+    "is_kept_lot": each(CHOSEN, thing=KEPT),
+    "kept_by": each(CHOSEN[:3], lot=KEPT, many=3),
+    "dies_within": CHOSEN,
+    "death_list": CHOSEN,
+    "is_death_list": each(CHOSEN, thing=((SEEN, 2),)),
+    "best_choice": CHOSEN,
+    "best_row": each(CHOSEN, many=6),
+    "least_choices": CHOSEN,
+    "behind_takes": each(CHOSEN, takes=(0, 1, 1)) + each(CHOSEN, takes=(0, 7)),
+    "saves_at": each(CHOSEN, tick=1) + each(CHOSEN, tick=0),
+    "last_save": CHOSEN,
+    "safe_choices": CHOSEN,
+    "saving_rows": CHOSEN,
+    "first_mistake": each(CHOSEN, takes=(1, 0)) + each(CHOSEN, takes=(-1,)),
+    "save_paper": CHOSEN,
+    "is_save_paper": each(CHOSEN, tick=1, thing=(KEPT, ())) + each(CHOSEN, tick=-1, thing=None),
+    "keeping": CHOSEN,
+    "is_keeping": each(CHOSEN, thing=((), (1,))) + each(CHOSEN, thing=[(), (1,)]),
+    "rescue": CHOSEN,
+    "is_rescue": each(CHOSEN, thing=(1,)) + each(CHOSEN, thing=None),
+    "last_rescue": CHOSEN,
+    "run_still": each(STILL_RUNS, stills=(1, 3)),
+    "out_at": each(STILL_RUNS, stills=(1, 3)),
+    "outlives": each(STILL_RUNS, stills=(2,)),
+    "greatest_stills": STILL_RUNS,
+    "worst_stills": each(STILL_RUNS, most=2),
+    "is_killing": each(STILL_RUNS, most=2, thing=(1,)),
+    "helped_by": STILL_RUNS,
+    "never_kills": STILL_RUNS,
+    "outlives_all": LASTING,
+    "outliving_list": LASTING,
+    "killing_stills": LASTING,
+    "is_outliving_list": each(LASTING, thing=((SEEN, 0),)),
+    "is_fault": ({"n": 3, "thing": ("damp", 2)}, {"n": 3, "thing": ["damp", 2]}),
+    "case_of": ({"play": PLAY, "unknown": UNKNOWN, "guess": ((9, 4), 1)},),
+    "run_with": tuple(dict(CASE, case=case) for case in CASES),
+    "flue_row": tuple(dict(CASE, case=case) for case in CASES),
+    "guesses_that_fit": FITS,
+    "faults_that_fit": FITS,
+    "starts_that_fit": FITS,
+    "sure_fault": FITS,
+    "sure_heat": each(FITS, number=1, tick=2) + each(FITS, number=3, tick=9) + each(FITS, number=2, tick=-1),
+    "heats_left": each(FITS, number=1, tick=2) + each(FITS, number=3, tick=9) + each(FITS, number=2, tick=-1),
+    "guesses_by_flue": tuple({"play": PLAY, "unknown": UNKNOWN, "row": row} for row in ((None,) * 3, (5, None, 4))),
+    "misfit": FITS,
+    "is_misfit": each(FITS, thing=(0,) * 18) + each(FITS, thing=[]),
+    "is_look": ({"thing": ("heat", 1, 2), "n": 3}, {"thing": ["flue", 1], "n": 3}),
+    "shown_by": tuple({"case": CASES[1], "rules": FEED, "told": TOLD, "look": look} for look in LOOKS + (("top", 1, 3),)),
+    "parted_by": PARTED,
+    "worth_of": PARTED,
+    "best_look": LOOKED,
+    "blind_pairs": LOOKED,
+    "least_looks": LOOKED,
+    "looks_needed": LOOKED,
+    "looks_plan": each(LOOKED, most=2),
+    "looks_doubt": each(LOOKED, most=1),
+    "is_looks_plan": each(LOOKED, most=1, thing=()),
+    "is_looks_doubt": each(LOOKED, most=0, thing=((0, 1), ())),
 }
 
 # These return a list; all others return no list at any depth.
-LISTS = ("orders_that_fire", "heats_before", "deeds_here", "fires_of", "jumps")
+LISTS = ("orders_that_fire", "heats_before", "deeds_here", "fires_of", "jumps", "acts_now", "apart_row", "starved_row",
+         "parted_by")

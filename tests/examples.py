@@ -1,4 +1,4 @@
-"""The rows of the examples of [4] to [10], with the answer or the error that stands there."""
+"""The rows of the examples of [4] to [18], with the answer or the error that stands there."""
 
 
 KINDS = r'''
@@ -155,5 +155,164 @@ raises NoChamber(number=3)
 >>> goes_out(kiln, (), ((1, ("brick", 1)),), 9)
 raises Unfit()
 >>> cause_of(kiln, (), ((2, ("damper", 2, False)),), 9)
+raises NoPaper()
+'''
+
+RULES = r'''
+>>> acts_now(kiln, feed), acts_now(run_by(kiln, feed, 2), feed), run_by(kiln, (), 1)[2]
+([], [('coal', 2, (20,))], (1, 24, 0, 16, 0, 0, 0))
+>>> run_by(kiln, (), 1)[1][1], run_by(kiln, (), 1)[1][2]
+((((0, 10, 1),), 56, 80, (16,), False, False, False), (((0, 10, 1),), 24, 24, (20,), False, True, True))
+>>> used_at(kiln, feed, 5, 0), never_used(kiln, feed, 2), never_used(kiln, feed, 3), first_unlike(kiln, (), feed, 9)
+((3, 4, 5), (0,), (), 3)
+>>> flip = ((0, (), ("damper", True)), (0, (), ("damper", False)))
+>>> clash_of(kiln, flip, 5), clash_of(kiln, feed, 5), ruled(kiln, flip) == kiln, acts_now(kiln, flip)
+((1, 0, 1), None, True, [('damper', 1, True), ('damper', 1, False)])
+>>> fed = with_rule(feed, 1, (0, (("set",), ("pieces", 1)), ("coal", (9,))))
+>>> fed[1][2], without_rule(fed, 1) == feed, lean_rules(kiln, fed, 4), lean_rules(kiln, fed, 2), never_used(kiln, fed, 9)
+(('coal', (9,)), True, (0,), (), (1,))
+>>> needless_tests(kiln, fed, 4, 1), needless_tests(kiln, feed, 4, 0)
+((0,), ())
+>>> is_rules(make, feed), is_rules(make, ((0, (), ("set", ((1, 5),))),)), is_rules(make, ((0, ("set",), ("draw",)),)), is_rules(make, ())
+(True, False, False, True)
+>>> without_rule(feed, 1)
+raises NoRule(number=1)
+'''
+
+STEADY = r'''
+>>> kiln, none, cold = (((12, 1, 90),), 0, 8, 8, 1000, 0), (0, 0, 0, 0, 0, 0, 0), (None, 0, 0, (), False, False, False)
+>>> four = ((None, 6, 0, (), True, False, False), (None, 24, 0, (), False, False, False), (None, 10, 0, (), False, True, False), (None, 2, 0, (), True, True, False))
+>>> feed, dry = (0, (("pieces", 1),), ("coal", (10,))), ((-1, (), ("open",)), (1, (), ("brick",)), (0, (), ("damper", False)), (2, (), ("damper", True)))
+>>> lead, ring, five = (feed,) + dry, (kiln, four, none), (kiln, four + (cold,), none)
+>>> steady_paper(ring, lead), steady_paper(five, lead), out_paper(ring, dry), [is_steady_paper(ring, lead, own) for own in ((1, 4, 2), (0, 8, 0), (0, 2, 2))]
+((0, 2, 1), (4, 2, 1), 3, [True, True, False])
+>>> far_works(ring, lead, 10 ** 30) == (kiln, four, (10 ** 30, 10 ** 31, 0, 10 ** 31, 0, 0, 0)), fronts_far(ring, lead, 10 ** 30 + 2), round_ledger(ring, lead)
+(True, (3,), (2, 20, 0, 20, 0, 0, 0))
+>>> hottest_ever(ring, dry), comes_seen(ring, lead, ring), least_ring(ring, cold, lead), least_heat_for(ring, lead, 1), is_out_paper(ring, dry, 90)
+((24, 0), 0, 4, 10, True)
+>>> steady_paper(ring, dry)
+raises NoPaper()
+'''
+
+PAIRS = r'''
+>>> bits = ((None, 30, 0, (), True, False, False), (None, 4, 0, (), False, False, False), (None, 20, 0, (), False, True, False), cold)
+>>> eight, bridge = pair_works(kiln, four, cold, 8, 4), (kiln, bits, none)
+>>> apart(eight), apart(ring), apart_row(eight, lead, 2)[1:], nearest_ever(eight, lead), fires_for_ever(eight, lead), fires_for_ever(eight, dry)
+((4, 4), (4,), [(4, 4), (4, 4)], 4, (2,), (0,))
+>>> pair_paper(eight, lead), [is_pair_paper(eight, lead, own) for own in ((0, 2, 5), (3, 8, 0), (0, 2, 0))]
+((0, 2, 1), [True, True, False])
+>>> lone_paper(eight, dry), how_lone(eight, dry), lone_paper(bridge, ()), how_lone(bridge, ()), how_lone(ring, lead), how_lone(eight, lead)
+(3, 'gone', 1, 'met', 'ahead', None)
+>>> one_draught(bridge, 0, 2), starved_row(eight, lead, 1), most_fires(kiln, four, cold, 12, lead), fars_that_stay(kiln, four, cold, 8, dry)
+(True, [(1, 1), (1, 5)], 3, ())
+>>> pair_works(kiln, four, cold, 8, 3)
+raises Unfit()
+'''
+
+SAVING = r'''
+>>> bare, cold = (((20, 1, 90),), 0, 10, 8, 99, 0), (None, 0, 0, (), False, False, False)
+>>> hearth = (bare, ((None, 20, 0, (20, 20), True, True, False), cold, cold), (0,) * 7)
+>>> feed = ((), ((0, ("coal", (20,))),))
+>>> [behind_takes(hearth, (), feed, (0,) * many)[1][0][1] for many in (1, 2, 3, 4)]
+[30, 35, 18, 9]
+>>> last_save(hearth, (), feed), saves_at(hearth, (), feed, 3), saves_at(hearth, (), feed, 4), saving_rows(hearth, (), feed)
+(3, True, False, ((0, 1), (0, 1), (1,), ()))
+>>> first_mistake(hearth, (), feed, (0, 0, 0)), first_mistake(hearth, (), feed, (1, 0, 0))
+(3, None)
+>>> leaf = save_paper(hearth, (), feed)
+>>> [is_save_paper(hearth, (), feed, number, leaf) for number in (2, 3, 4)], is_save_paper(hearth, (), feed, 3, (leaf[0], ()))
+([False, True, False], False)
+>>> is_keeping(hearth, (), feed, ((0, 0, 1, 1, 1), (1,))), is_keeping(hearth, (), feed, ((0, 0, 1, 1), (1,)))
+(True, False)
+>>> tend, low = ((0, (("pieces", 1), ("from", 30)), ("coal", (20,))),), (bare, ((None, 20, 0, (), True, True, False), cold, cold), (0,) * 7)
+>>> rescue(low, tend, feed), last_rescue(low, tend, feed), is_rescue(low, tend, feed, (0,)), last_save(hearth, tend, feed)
+((1,), 1, False, None)
+>>> rescue(low, (), feed)
+raises NoPaper()
+>>> behind_takes(low, (), feed, (0, 2))
+raises NoChoice(number=2)
+'''
+
+KEEPING = r'''
+>>> kiln = (((900, 1, 900),), 0, 4, 4, 900, 4)
+>>> hot, cold = (None, 8, 0, (), True, True, True), (None, 0, 0, (), False, False, True)
+>>> oven = (kiln, (hot, cold, cold), (0, 0, 0, 0, 0, 0, 0))
+>>> fed, shut = ((0, ("coal", (6,))),), ((0, ("brick",)),)
+>>> seen = ((None, 8, (), True, True, True),) + ((None, 0, (), False, False, True),) * 2
+>>> seen_of(oven) == seen, can_keep(oven, (), ((), fed)), kept_lot(oven, (), ((), fed)) == ((seen, 1),)
+(True, True, True)
+>>> kept_by(oven, (), ((), fed), ((seen, 1),), 2)[2], chosen_tick(oven, (), ((), fed), 0)[1][0][1]
+((2, 8, 4, 12, 0, 0, 0), 3)
+>>> dies_within(oven, (), ((),)), death_list(oven, (), ((),)) == ((seen, 1),), dies_within(oven, (), ((), fed))
+(1, True, None)
+>>> dies_within(oven, (), ((), shut)), best_row(oven, (), ((), shut), 9), best_choice(oven, (), ((), fed))
+(4, (1, 0, 0, 0), 1)
+>>> is_kept_lot(oven, (), ((), fed), ((seen, 0),)), is_death_list(oven, (), ((), fed), ((seen, 1),)), least_choices(oven, (), ((), shut, fed))
+(False, False, (2,))
+>>> kept_lot(oven, (), ((),))
+raises NoPaper()
+'''
+
+STILLS = r'''
+>>> feed = ((0, (("pieces", 1),), ("coal", (6,))),)
+>>> out_at(oven, feed, (), 9), out_at(oven, feed, (1,), 9), outlives(oven, feed, (5,), 5), run_still(oven, feed, (1,), 1)[1][0]
+(None, 2, True, (None, 6, 0, (6,), True, True, True))
+>>> greatest_stills(oven, feed, 1), greatest_stills(oven, feed, 5), greatest_stills(oven, (), 5)
+(1, 0, None)
+>>> worst_stills(oven, feed, 1, 5), is_killing(oven, feed, 1, 5, (4,)), is_killing(oven, feed, 1, 5, (5,)), is_killing(oven, (), 1, 5, ())
+((1,), True, False, True)
+>>> helped_by(oven, (), 3), never_kills(oven, feed, 5), out_at(oven, (), (1, 2), 5)
+((1,), (5,), 3)
+>>> outlives_all(oven, feed, 0), outliving_list(oven, feed, 0) == ((seen, 0),), outlives_all(oven, feed, 1), killing_stills(oven, feed, 1)
+(True, True, False, (1,))
+>>> warm = ((((900, 1, 900),), 0, 4, 4, 900, 0), oven[1], oven[2])
+>>> less = ((0, (("pieces", 1),), ("coal", (4,))),)
+>>> outlives_all(warm, less, 3), len(outliving_list(warm, less, 3)), greatest_stills(warm, less, 9)
+(True, 7, 3)
+>>> worst_stills(warm, less, 3, 9)
+raises NoPaper()
+'''
+
+BACK = r'''
+>>> brick = (((6, 1, 20),), 0, 6, 5, 100, 0)
+>>> gate, ember = (None, 0, 0, (), True, False, False), (None, 12, 0, (10,), False, False, False)
+>>> lane = (brick, (gate, ember, (((0, 5, 0),), 0, 0, (), False, True, True)), (0, 0, 0, 0, 0, 0, 0))
+>>> four, unknown = (lane, (), (), 4), (((1, (6, 12)),), (None, ("damp", 1)))
+>>> [flue_row(case_of(four, unknown, guess), (), (), 4) for guess in (((12,), 0), ((12,), 1), ((6,), 0))]
+[(3, 5, 5, 3), (3, 3, 2, 1), (1, 1, 1, 1)]
+>>> [guesses_that_fit(four, unknown, ((2, top),)) for top in (6, 3, 2, 5)]
+[(((12,), 0),), (((12,), 1),), (((6,), 0), ((6,), 1)), ()]
+>>> faults_that_fit(four, unknown, ((2, 2),)), starts_that_fit(four, unknown, ((2, 2),)), sure_fault(four, unknown, ((2, 2),))
+((0, 1), ((6,),), None)
+>>> sure_heat(four, unknown, ((2, 6),), 1, 1), heats_left(four, unknown, (), 1, 1)
+(16, (3, 6, 16))
+>>> guesses_by_flue(four, unknown, (3, None, None, None)), misfit(four, unknown, ((0, 0), (2, 5)))
+((((12,), 0), ((12,), 1)), (1, 1, 1, 1))
+>>> is_misfit(four, unknown, ((2, 5), (2, 6)), (0, 1, 0, 1)), is_misfit(four, unknown, ((2, 5), (2, 6)), (0, 0, 1, 1))
+(True, False)
+>>> is_fault(3, ("leak", 2)), is_fault(3, ("leak", 3))
+(True, False)
+>>> sure_fault(four, unknown, ((2, 5),))
+raises NoPaper()
+'''
+
+LOOKS = r'''
+>>> wheat = (((10, 2, 40),), 0, 10, 10, 50, 0)
+>>> far, vent = (None, 0, 0, (), False, False, True), (None, 0, 0, (), False, True, True)
+>>> ring = (wheat, ((None, 30, 0, (8,), True, False, False), vent, far), (0, 0, 0, 0, 0, 0, 0))
+>>> warm = (wheat, ((None, 31, 0, (8,), True, False, False), vent, far), (0, 0, 0, 0, 0, 0, 0))
+>>> cases = ((ring, None), (ring, ("damp", 0)), (warm, None))
+>>> looks = (("flue", 1), ("heat", 2, 1), ("flue", 2))
+>>> [parted_by(cases, (), (), own) for own in looks]
+[[(7, (0, 1, 2))], [(8, (1,)), (10, (0, 2))], [(14, (1,)), (16, (0,)), (17, (2,))]]
+>>> best_look(cases, (), (), looks), worth_of(cases, (), (), looks[1]), blind_pairs(cases, (), (), looks[:2])
+((1, 2), 2, ((0, 2),))
+>>> least_looks(cases, (), (), looks), [looks_needed(cases, (), (), own) for own in (looks, looks[:2])]
+((2,), [1, None])
+>>> is_looks_plan(cases, (), (), looks, 1, (2, ((14, ()), (16, ()), (17, ()))))
+True
+>>> is_looks_doubt(cases, (), (), looks[:2], 1, ((0, 2), (((0, 2), ()), ((0, 2), ()))))
+True
+>>> looks_plan(cases, (), (), looks[:2], 3)
 raises NoPaper()
 '''

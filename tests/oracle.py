@@ -5,8 +5,8 @@ class CannotBeDone(Exception):
     """A DEED cannot be done."""
 
 
-def opened(works):
-    """The WORKS as dicts and lists."""
+def opened(works, fault=None):
+    """The WORKS as dicts and lists, with the FAULT that its run has."""
     make, chambers, ledger = works
     names = ("load", "heat", "top", "coal", "wicket", "damper", "screen")
     ring = [dict(zip(names, chamber)) for chamber in chambers]
@@ -15,7 +15,7 @@ def opened(works):
         if isinstance(part["load"], tuple):
             part["load"] = [list(course) for course in part["load"]]
     words = ("ticks", "flue", "earthed", "burnt", "good", "soft", "broken")
-    return {"make": make, "ring": ring, "ledger": dict(zip(words, ledger))}
+    return {"make": make, "ring": ring, "ledger": dict(zip(words, ledger)), "fault": fault}
 
 
 def closed(state):
@@ -45,7 +45,7 @@ def stretches(state):
                 continue
             if [part["damper"] for part in parts] != [False] * (long - 1) + [True]:
                 continue
-            if any(part["screen"] for part in parts[:-1]):
+            if any(ring[number]["screen"] and state["fault"] != ("leak", number) for number in row[:-1]):
                 continue
             found.append(row)
     return found
@@ -54,12 +54,14 @@ def stretches(state):
 def do(state, deed):
     """Do a DEED, or raise CannotBeDone."""
     word, number, *rest = deed
+    need(state["fault"] != ({"brick": "wicket", "open": "wicket"}.get(word, word), number))
+    need(0 <= number < len(state["ring"]))
     part = state["ring"][number]
     ledger = state["ledger"]
     make = state["make"]
     ready = part["wicket"] and part["heat"] < make[3]
     if word == "set":
-        need(ready and part["load"] is None)
+        need(ready and part["load"] is None and all(0 <= kind < len(make[0]) for kind, _ in rest[0]))
         part["load"] = [[kind, count, 0] for kind, count in rest[0]]
         part["top"] = part["heat"]
     elif word == "draw":
@@ -147,7 +149,7 @@ def steps_on(state, still):
         ledger["flue"] += air
     for number in sorted(sum(rows, [])):
         part = ring[number]
-        if part["heat"] >= make[2] and part["coal"]:
+        if part["heat"] >= make[2] and part["coal"] and state["fault"] != ("damp", number):
             strength = part["coal"].pop(0)
             part["heat"] += strength
             ledger["burnt"] += strength
@@ -156,8 +158,11 @@ def steps_on(state, still):
             share = part["heat"] // make[5]
             part["heat"] -= share
             ledger["earthed"] += share
-    for part in ring:
+    for number, part in enumerate(ring):
+        whole = part["screen"]
         mark_part(make, part)
+        if state["fault"] == ("screen", number):
+            part["screen"] = whole
     ledger["ticks"] += 1
 
 
@@ -196,3 +201,79 @@ def run_told(works, rules, told, stills, many):
         steps_on(state, tick in stills)
         rows.append(closed(state))
     return tuple(rows), tuple(done)
+
+
+def tick(works, rules, still=False):
+    """The WORKS behind a tick by RULES alone."""
+    state = opened(works)
+    obey(state, rules)
+    steps_on(state, still)
+    return closed(state)
+
+
+def rows_by(works, rules, many, stills=()):
+    """The list of the WORKS behind 0, 1, .. many ticks."""
+    rows = [works]
+    for number in range(1, many + 1):
+        rows.append(tick(rows[-1], rules, number in stills))
+    return rows
+
+
+def chosen(works, rules, choice):
+    """The WORKS behind a tick in which a choice is taken."""
+    return tick(works, tuple((place, (), act) for place, act in choice) + rules)
+
+
+def run_case(works, fault, rules, told, many):
+    """The list of the WORKS behind 0, 1, .. many ticks with a FAULT; DEEDS that cannot be done are passed over."""
+    rows = [works]
+    for number in range(1, many + 1):
+        state = opened(rows[-1], fault)
+        for own_tick, deed in told:
+            if own_tick == number:
+                try:
+                    do(state, deed)
+                except CannotBeDone:
+                    pass
+        obey(state, rules)
+        steps_on(state, False)
+        rows.append(closed(state))
+    return rows
+
+
+def seen(works, number=0):
+    """What is seen from a CHAMBER."""
+    make, chambers, _ = works
+    parts = []
+    for step in range(len(chambers)):
+        load, heat, _, coal, wicket, damper, screen = chambers[(number + step) % len(chambers)]
+        if isinstance(load, tuple):
+            load = tuple((kind, count, min(stood, make[0][kind][1])) for kind, count, stood in load)
+        parts.append((load, heat, coal, wicket, damper, screen))
+    return tuple(parts)
+
+
+def is_hot(works, number):
+    return works[1][number % len(works[1])][1] >= works[0][2]
+
+
+def is_out(works):
+    return not any(is_hot(works, number) for number in range(len(works[1])))
+
+
+def fronts(works):
+    return [number for number in range(len(works[1])) if is_hot(works, number) and not is_hot(works, number + 1)]
+
+
+def fires(works):
+    """The sets of CHAMBERS of the FIRES."""
+    many = len(works[1])
+    if all(is_hot(works, number) for number in range(many)):
+        return [set(range(many))]
+    found = []
+    for front in fronts(works):
+        row = {front}
+        while is_hot(works, front - len(row)):
+            row.add((front - len(row)) % many)
+        found.append(row)
+    return found

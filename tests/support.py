@@ -2,11 +2,12 @@
 
 import copy
 
-from ringkiln.errors import NoChamber, NoKind, NoPaper, TooMany, Unfit
+from ringkiln.errors import NoChamber, NoChoice, NoKind, NoPaper, NoRule, NoTick, TooMany, Unfit
 
 NOUGHTS = (0, 0, 0, 0, 0, 0, 0)
 SHUT = (None, 0, 0, (), False, False, True)
-MODULES = ("kinds", "chambers", "draughts", "ticks", "deeds", "runs", "fires")
+MODULES = ("kinds", "chambers", "draughts", "ticks", "deeds", "runs", "fires", "rules", "steady", "pairs", "keeping",
+           "saving", "stills", "back", "looks")
 
 
 def strictly(one, other):
@@ -37,7 +38,7 @@ def answer(function, *values):
     """What a call returns, or the name and the attributes of the error that it raises."""
     try:
         return function(*values)
-    except (NoChamber, NoKind, NoPaper, TooMany, Unfit) as error:
+    except (NoChamber, NoChoice, NoKind, NoPaper, NoRule, NoTick, TooMany, Unfit) as error:
         return "raises", type(error).__name__, tuple(sorted(vars(error).items()))
 
 
@@ -158,3 +159,28 @@ def heat_in(works):
 def kept(value):
     """A copy that nothing that is done to the value changes."""
     return copy.deepcopy(value)
+
+
+def lively_works(seed):
+    """A ring in which RULES open a wicket behind the front and a damper ahead of it: its FIRES often go round."""
+    numbers = Numbers(seed * 7 + 1)
+    make = (((12, 1 + numbers.below(3), 90),), 0, 8, numbers.one_of((8, 20)), 1000, numbers.one_of((0, 0, 0, 12)))
+    mouth = (None, 4 + numbers.below(6), 0, (), True, False, False)
+    hot = (None, 16 + numbers.below(12), 0, some_pile(numbers, 1), False, False, False)
+    flue = (None, 6 + numbers.below(8), 0, (), False, True, False)
+    ahead = (numbers.one_of((None, None, ((0, 5, 0),))), numbers.below(5), 0, (), True, True, False)
+    cold = (None, 0, 0, (), False, False, False)
+    parts = (mouth, hot, flue, ahead) + (cold,) * numbers.below(3)
+    return make, parts * (1 + numbers.below(2)), NOUGHTS
+
+
+def lively_rules(seed):
+    """The RULES for such rings: coal to the front, doors that go along with it, sometimes one more or one less."""
+    numbers = Numbers(seed * 11 + 2)
+    rules = [(0, (("pieces", 1),), ("coal", (6 + numbers.below(9),))), (-1, (), ("open",)), (1, (), ("brick",)),
+             (0, (), ("damper", False)), (1 + numbers.below(2), (), ("damper", True))]
+    if numbers.below(3) == 0:
+        rules[numbers.below(5)] = (-1, (("set",),), ("draw",))
+    if numbers.below(3) == 0:
+        rules.append((numbers.below(4) - 2, (("empty",), ("from", 3)), ("set", ((0, 5),))))
+    return tuple(rules)

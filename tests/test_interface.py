@@ -35,9 +35,54 @@ INTERFACE = {
              "is_fire_rows(works,rules,told,many,thing) kindled_at(works,rules,told,many) "
              "comes_to(works,rules,told,many,number) passes(works,rules,told,many,number) "
              "jumps(works,rules,told,many) goes_out(works,rules,told,many) cause_of(works,rules,told,many)",
+    "rules": "is_rules(make,thing) acts_now(works,rules) ruled(works,rules) run_by(works,rules,many) "
+             "used_at(works,rules,many,number) never_used(works,rules,many) without_rule(rules,number) "
+             "with_rule(rules,number,rule) clash_of(works,rules,many) first_unlike(works,rules,other,many) "
+             "lean_rules(works,rules,many) needless_tests(works,rules,many,number)",
+    "steady": "is_steady(works,rules) steady_paper(works,rules) is_steady_paper(works,rules,thing) "
+              "out_paper(works,rules) is_out_paper(works,rules,thing) far_works(works,rules,many) "
+              "fronts_far(works,rules,many) round_ledger(works,rules) hottest_ever(works,rules) "
+              "comes_seen(works,rules,other) rings_steady(works,filler,rules) least_ring(works,filler,rules) "
+              "least_heat_for(works,rules,number)",
+    "pairs": "apart(works) apart_row(works,rules,many) stay_two(works,rules) pair_paper(works,rules) "
+             "is_pair_paper(works,rules,thing) lone_paper(works,rules) is_lone_paper(works,rules,thing) "
+             "how_lone(works,rules) nearest_ever(works,rules) fires_for_ever(works,rules) "
+             "one_draught(works,one,two) starved_row(works,rules,many) "
+             "pair_works(make,pattern,filler,many,far) fars_that_stay(make,pattern,filler,many,rules) "
+             "most_fires(make,pattern,filler,many,rules)",
+    "keeping": "are_choices(thing) chosen_tick(works,rules,choices,number) seen_of(works) "
+               "can_keep(works,rules,choices) kept_lot(works,rules,choices) "
+               "is_kept_lot(works,rules,choices,thing) kept_by(works,rules,choices,lot,many) "
+               "dies_within(works,rules,choices) death_list(works,rules,choices) "
+               "is_death_list(works,rules,choices,thing) best_choice(works,rules,choices) "
+               "best_row(works,rules,choices,many) least_choices(works,rules,choices)",
+    "saving": "behind_takes(works,rules,choices,takes) saves_at(works,rules,choices,tick) "
+              "last_save(works,rules,choices) safe_choices(works,rules,choices) saving_rows(works,rules,choices) "
+              "first_mistake(works,rules,choices,takes) save_paper(works,rules,choices) "
+              "is_save_paper(works,rules,choices,tick,thing) keeping(works,rules,choices) "
+              "is_keeping(works,rules,choices,thing) rescue(works,rules,choices) "
+              "is_rescue(works,rules,choices,thing) last_rescue(works,rules,choices)",
+    "stills": "run_still(works,rules,stills,many) out_at(works,rules,stills,many) outlives(works,rules,stills,many) "
+              "greatest_stills(works,rules,many) worst_stills(works,rules,most,many) "
+              "is_killing(works,rules,most,many,thing) helped_by(works,rules,many) never_kills(works,rules,many) "
+              "outlives_all(works,rules,most) outliving_list(works,rules,most) killing_stills(works,rules,most) "
+              "is_outliving_list(works,rules,most,thing)",
+    "back": "is_fault(n,thing) case_of(play,unknown,guess) run_with(case,rules,told,many) "
+            "flue_row(case,rules,told,many) guesses_that_fit(play,unknown,readings) "
+            "faults_that_fit(play,unknown,readings) starts_that_fit(play,unknown,readings) "
+            "sure_fault(play,unknown,readings) sure_heat(play,unknown,readings,number,tick) "
+            "heats_left(play,unknown,readings,number,tick) guesses_by_flue(play,unknown,row) "
+            "misfit(play,unknown,readings) is_misfit(play,unknown,readings,thing)",
+    "looks": "is_look(thing,n) shown_by(case,rules,told,look) parted_by(cases,rules,told,look) "
+             "worth_of(cases,rules,told,look) best_look(cases,rules,told,looks) "
+             "blind_pairs(cases,rules,told,looks) least_looks(cases,rules,told,looks) "
+             "looks_needed(cases,rules,told,looks) looks_plan(cases,rules,told,looks,most) "
+             "looks_doubt(cases,rules,told,looks,most) is_looks_plan(cases,rules,told,looks,most,thing) "
+             "is_looks_doubt(cases,rules,told,looks,most,thing)",
 }
 
-ORDER = ["shapes", "errors", "kinds", "chambers", "draughts", "ticks", "deeds", "runs", "fires"]
+ORDER = ["shapes", "errors", "kinds", "chambers", "draughts", "ticks", "deeds", "runs", "fires", "rules", "steady", "pairs",
+         "keeping", "saving", "stills", "back", "looks"]
 
 ERRORS = {
     LookupError: {"NoChamber": ["number"], "NoKind": ["number"], "NoTick": ["number"], "NoRule": ["number"],

@@ -9,12 +9,13 @@ PACKAGE = pathlib.Path(__file__).resolve().parent.parent / "ringkiln"
 
 NODES = (
     "Module Expr Constant ImportFrom alias FunctionDef arguments arg ClassDef Return Assign AugAssign If While For Break "
-    "Continue Pass Raise Call Name Load Store Attribute Subscript Slice Tuple List Dict ListComp comprehension BinOp "
+    "Continue Pass Raise Call Name Load Store Attribute Subscript Slice Tuple List Dict ListComp DictComp Lambda "
+    "comprehension BinOp "
     "UnaryOp BoolOp Compare IfExp And Or Not USub Add Sub Mult FloorDiv Mod Eq NotEq Lt LtE Gt GtE Is IsNot In NotIn"
 ).split()
 BUILTINS = "all any bool enumerate int isinstance len list max min range sorted str sum tuple type zip " \
            "LookupError ValueError".split()
-METHODS = "append extend get index setdefault".split()
+METHODS = "append extend get index items setdefault".split()
 AT_ONCE = ("enumerate", "zip", "range", "reversed")
 TAKERS = ("all", "any", "enumerate", "list", "max", "min", "sorted", "sum", "tuple", "zip")
 NEVER = "mro elements open input law version_info with_traceback add_note register".split()
@@ -142,6 +143,9 @@ class Files(unittest.TestCase):
                 self.assertFalse(any(isinstance(value, ast.Starred) for value in node.args))
                 if isinstance(node.func, ast.Attribute):
                     self.assertIn(node.func.attr, METHODS)
+                    parent = parents[node]
+                    iterated = isinstance(parent, (ast.For, ast.comprehension)) and parent.iter is node
+                    self.assertTrue(iterated or node.func.attr != "items", node.lineno)
                 elif node.func.id in AT_ONCE:
                     parent = parents[node]
                     iterated = isinstance(parent, (ast.For, ast.comprehension)) and parent.iter is node
