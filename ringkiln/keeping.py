@@ -168,20 +168,23 @@ def are_seen_pairs(works, thing, least):
     return all([has_fire(make, seen) for seen, _ in thing])
 
 
-def numbers_seen(thing):
-    """A dict of the pairs (seen, number), None if the same is seen in two."""
+def pairs_table(works, thing, least):
+    """A dict of pairs (seen with a FIRE, number from least), that of works among them; None if thing is none."""
+    if not are_seen_pairs(works, thing, least):
+        return None
     table = {seen: number for seen, number in thing}
-    return table if len(table) == len(thing) else None
+    # Fewer of them than pairs: the same is seen in two.
+    if len(table) < len(thing) or seen_in(works, 0) not in table:
+        return None
+    return table
 
 
 def is_kept_lot(works, rules, choices, thing):
     """Whether thing is a KEPT LOT."""
     own = tupled(works)
     rows = rules_taken(rules, choices)
-    if not are_seen_pairs(own, thing, 0):
-        return False
-    table = numbers_seen(thing)
-    if table is None or seen_in(own, 0) not in table:
+    table = pairs_table(own, thing, 0)
+    if table is None:
         return False
     for seen, number in thing:
         if number >= len(rows) or seen_behind(own[0], seen, rows[number]) not in table:
@@ -196,7 +199,7 @@ def kept_by(works, rules, choices, lot, many):
         raise Unfit()
     now = tupled(works)
     rows = rules_taken(rules, choices)
-    table = numbers_seen(own_lot)
+    table = {seen: number for seen, number in own_lot}
     for _ in range(many):
         now = tick_by(now, rows[table[seen_in(now, 0)]])
     return now
@@ -231,10 +234,8 @@ def is_death_list(works, rules, choices, thing):
     if hot_chambers(own) == ():
         return isinstance(thing, tuple) and thing == ()
     rows = rules_taken(rules, choices)
-    if not are_seen_pairs(own, thing, 1):
-        return False
-    table = numbers_seen(thing)
-    if table is None or seen_in(own, 0) not in table:
+    table = pairs_table(own, thing, 1)
+    if table is None:
         return False
     return all([is_death_of(own[0], seen, rows, table) for seen, _ in thing])
 

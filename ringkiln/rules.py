@@ -5,9 +5,6 @@ from ringkiln.errors import NoRule
 from ringkiln.runs import rows_of_run, rules_done, rules_used, tick_by
 from ringkiln.shapes import KINDS, is_from, is_number, is_row, number_sets, tupled
 
-WHEN = 1
-ACT = 2
-
 
 def is_test(thing):
     """Whether thing is a TEST."""

@@ -170,9 +170,17 @@ class Faults(unittest.TestCase):
     def test_told_deeds_that_cannot_be_done_are_passed_over(self):
         told = ((1, ("draw", 0)), (1, ("open", 0)), (1, ("coal", 1, ())), (1, ("wood", 1, 0)), (1, ("clear", 2)),
                 (1, ("damper", 2, True)), (1, ("set", 0, ((0, 5),))), (1, ("wood", 2, 4)), (1, ("coal", 9, (3,))),
-                (1, ("set", 1, ((3, 1),))), (5, ("wood", 0, 1)))
+                (1, ("set", 1, ((3, 1),))), (1, ("coal", 3, (3,))), (1, ("wood", -1, 5)), (1, ("damper", -3, True)),
+                (5, ("wood", 0, 1)))
         self.assertEqual(self.heats(None, told=told), [10, 22, 9])
         self.assertEqual(run_with((self.LANE, None), (), told, 1), run(self.LANE, (), ((1, ("wood", 2, 4)),), (), 1))
+
+    def test_told_green_of_no_kind(self):
+        works = works_of(part(0, (), "w"), part(8), part())
+        for kinds in ((1,), (0, 1), (-1,), (0, -1), (9,)):
+            told = ((1, ("set", 0, tuple((kind, 5) for kind in kinds))),)
+            self.assertIsNone(run_with((works, None), (), told, 1)[1][0][0])
+        self.assertEqual(run_with((works, None), (), ((1, ("set", 0, ((0, 5),))),), 1)[1][0][0], ((0, 5, 0),))
 
     def test_without_a_fault_it_is_the_run(self):
         for seed in range(200):

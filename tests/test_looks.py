@@ -290,8 +290,14 @@ class Plans(unittest.TestCase):
                       (0, ((shown[0], []),) + good[1][1:]), (0, ((shown[0], None),) + good[1][1:]),
                       (0, ((str(shown[0]), ()),) + good[1][1:]), (0, ((shown[0],),) + good[1][1:])):
             self.assertIs(is_looks_plan(CASES, (), (), looks, 1, thing), False, thing)
+        # One below the first look would be the last one, as Python counts.
+        self.assertIs(is_looks_plan(CASES, (), (), looks[::-1], 1, (1, good[1])), True)
+        self.assertIs(is_looks_plan(CASES, (), (), looks[::-1], 1, (-1, good[1])), False)
         blind = looks[1:]
         doubt = ((0, 1), (((0, 1), ()),))
+        for thing in ((0, 2, 1), (1, 0, 2), (0, True), (False, 1), (0, 1, 3), (-1, 0, 1)):
+            self.assertIs(is_looks_doubt(CASES, (), (), blind, 0, (thing, ())), False, thing)
+            self.assertIs(is_looks_doubt(CASES, (), (), blind, 1, (thing, doubt[1])), False, thing)
         for good in (doubt, ((0, 1, 2), (((0, 2), ()),)), ((0, 1, 2), (((0, 1, 2), ()),))):
             self.assertIs(is_looks_doubt(CASES, (), (), blind, 1, good), True)
         for thing in (None, 0, True, "", (), [], list(doubt), listed(doubt), ((0,), doubt[1]), ((), doubt[1]),

@@ -210,6 +210,12 @@ class SavePapers(unittest.TestCase):
         self.assertIs(is_save_paper(OVEN, (), choices, 3, (lot, ())), False)
         self.assertIs(is_save_paper(OVEN, (), choices, 5, (lot, ())), False)
 
+    def test_nothing_kept_at_tick_0(self):
+        dead = death_list(OVEN, (), ((),))
+        self.assertIs(is_save_paper(OVEN, (), ((),), 0, ((), dead)), True)
+        for kept in (kept_lot(ALONE, (), ((),)), [], None, 0, False, ((),)):
+            self.assertIs(is_save_paper(OVEN, (), ((),), 0, (kept, dead)), False)
+
     def test_none_of_those_that_go_alone(self):
         for tick in (0, 1, 5, 10 ** 9):
             for thing in (((), ()), (kept_lot(ALONE, (), ((),)), ())):

@@ -156,6 +156,8 @@ class AllStills(unittest.TestCase):
         for thing in (None, 0, 1, True, "", [], [1], (True,), (0,), (-1,), (6,), (1, 1), (2, 1), (1, 2, 3), (None,), ("1",),
                       ((1,),), (1, True), (1, None)):
             self.assertIs(is_killing(OVEN, FEED, 2, 5, thing), False, thing)
+            # Not where it is out whatever is still either.
+            self.assertIs(is_killing(COLD, FEED, 2, 5, thing), False, thing)
 
 
 def left_graph(works, rules, most, cap=160):
