@@ -25,12 +25,14 @@ def names_fit(works, deed):
 
 
 def told_done(works, deeds, fault):
-    """Step 1 with a FAULT or None: DEEDS that cannot be done are passed over."""
+    """Step 1 with a FAULT or None, what cannot be done passed over: the pair (WORKS behind it, list of DEEDS done)."""
     now = works
+    used = []
     for deed in deeds:
         if part_touched(deed) != fault and names_fit(now, deed) and bar_of(now, deed) is None:
             now = works_behind(now, deed)
-    return now
+            used.append(deed)
+    return now, used
 
 
 def with_screen(works, number, screen):
@@ -63,7 +65,8 @@ def marked_by(works, fault):
 
 def faulty_parts(works, deeds, rules, fault):
     """The WORKS behind the steps 1 and 2, 4, 5, 6, 7, 8 of a tick with a FAULT or None."""
-    halfway = rules_used(told_done(works, deeds, fault), rules, fault)[0]
+    told = told_done(works, deeds, fault)[0]
+    halfway = rules_used(told, rules, lambda deed: part_touched(deed) == fault)[0]
     draughts = draughts_by(halfway, fault)
     aired = air_step(halfway, draughts)
     burnt = burn_step(aired, burners_by(draughts, fault))

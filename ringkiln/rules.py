@@ -2,7 +2,7 @@
 
 from ringkiln.deeds import is_act, part_touched
 from ringkiln.errors import NoRule
-from ringkiln.runs import rows_of_run, rules_done, rules_used, tick_by
+from ringkiln.runs import nothing_barred, rows_of_run, rules_done, rules_used, tick_by
 from ringkiln.shapes import KINDS, is_from, is_number, is_row, number_sets, tupled
 
 
@@ -71,7 +71,7 @@ def run_by(works, rules, many):
 def uses(works, rules, many):
     """Tick by tick of the run by rules the list of the pairs (RULE's number, DEED) that are done."""
     own_rules = tupled(rules)
-    return [rules_used(row, own_rules, None)[1] for row in rows_by(works, rules, many)[:many]]
+    return [rules_used(row, own_rules, nothing_barred)[1] for row in rows_by(works, rules, many)[:many]]
 
 
 def used_at(works, rules, many, number):

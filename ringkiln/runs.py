@@ -1,7 +1,7 @@
 """Runs: told DEEDS, RULES and ticks, one behind the other."""
 
 from ringkiln.chambers import holds_at
-from ringkiln.deeds import bar_of, deed_done, deed_of, deed_turned, part_touched, works_behind
+from ringkiln.deeds import bar_of, deed_done, deed_of, deed_turned, works_behind
 from ringkiln.shapes import HEAT, KINDLING, TOP, tupled
 from ringkiln.ticks import ticked
 
@@ -19,31 +19,37 @@ def fronts_in(works):
     return tuple([number for number in hot if (number + 1) % many not in hot])
 
 
-def is_ruled(works, when, deed, fault):
-    """Whether a RULE with the TESTS of when does a DEED to a WORKS as it stands, with a FAULT or None."""
+def is_ruled(works, when, deed):
+    """Whether a RULE with the TESTS of when does a DEED to a WORKS as it stands."""
     chamber = works[1][deed[1]]
-    if not all([holds_at(chamber, test) for test in when]) or bar_of(works, deed) is not None:
-        return False
-    return fault is None or part_touched(deed) != fault
+    return all([holds_at(chamber, test) for test in when]) and bar_of(works, deed) is None
 
 
-def rules_used(works, rules, fault):
-    """Step 2 with a FAULT or None: the pair (WORKS behind it, the list of the pairs (RULE's number, DEED))."""
+def rules_used(works, rules, is_barred):
+    """Step 2: the pair (WORKS behind it, the list of the pairs (RULE's number, DEED)).
+
+    is_barred tells of a DEED that could be done whether it is passed over all the same.
+    """
     now = works
     fronts = fronts_in(works)
     used = []
     for number, (place, when, act) in enumerate(rules):
         for front in fronts:
             deed = deed_of(act, (front + place) % len(works[1]))
-            if is_ruled(now, when, deed, fault):
+            if is_ruled(now, when, deed) and not is_barred(deed):
                 now = works_behind(now, deed)
                 used.append((number, deed))
     return now, used
 
 
+def nothing_barred(_):
+    """No DEED of RULES is passed over that could be done."""
+    return False
+
+
 def rules_done(works, rules):
     """Step 2: the pair (WORKS behind it, the list of the DEEDS that RULES did)."""
-    now, used = rules_used(works, rules, None)
+    now, used = rules_used(works, rules, nothing_barred)
     return now, [deed for _, deed in used]
 
 

@@ -28,6 +28,8 @@ GOOD = 4
 SOFT = 5
 BROKEN = 6
 
+FIGURES = "0123456789"
+
 
 def tupled(value):
     """The value with a tuple in the place of each list, at any depth."""
@@ -66,6 +68,11 @@ def replaced(row, at, value):
 def grown(row, at, more):
     """The row, a tuple of numbers, with so much more at this place."""
     return replaced(row, at, row[at] + more)
+
+
+def is_figures(word):
+    """Whether a word is figures without a zero ahead."""
+    return word != "" and all([sign in FIGURES for sign in word]) and (word[0] != "0" or word == "0")
 
 
 def number_sets(many):

@@ -26,6 +26,10 @@ def over(works, **more):
     return dict(more, works=works)
 
 
+def listed_once(row):
+    return [part for part in row]
+
+
 BOTH = (over(KILN), over(RING))
 EACH = tuple(over(works, number=number) for works in (KILN, RING) for number in (0, 1, 2))
 NO_SUCH = (over(KILN, number=3), over(RING, number=-1))
@@ -77,6 +81,26 @@ LOOKS = (("heat", 1, 1), ("flue", 2), ("coal", 2, 1), ("top", 3, 2))
 LOOKED = tuple({"cases": CASES[:many], "rules": FEED, "told": TOLD, "looks": looks}
                for many in (1, 2, 4) for looks in (LOOKS, LOOKS[:1], LOOKS + (("heat", 1, 3),)))
 PARTED = tuple({"cases": CASES, "rules": FEED, "told": TOLD, "look": look} for look in LOOKS + (("coal", 1, -1),))
+
+
+PLAYS = ({"play": PLAY}, {"play": (RING, FILL, TOLD, 9)}, {"play": (OVEN, FUEL, (), 1)})
+ORDERS = ((0, (), ("coal", (8,))), (1, (("set",),), ("draw",)), (1, (("empty",),), ("set", ((0, 5),))))
+YARD = ((((2, 1, 100),), 0, 8, 6, 50, 0), ((None, 4, 0, (), True, False, True), DARK, (None, 16, 0, (), True, True, True)),
+        NOUGHTS)
+YARDS = ({"works": YARD, "rules": ORDERS, "many": 4}, {"works": OVEN, "rules": FUEL, "many": 6},
+         {"works": RING, "rules": FEED, "many": 3}, {"works": OUT, "rules": (), "many": 1})
+AHEAD = {"make": CRAFT, "size": 4}
+FILLS = ((1, (("pieces", 1),), ("coal", (12,))), (3, (("from", 9),), ("wood", 5)), (5, (), ("set", ((0, 4),))))
+LIKE = (dict(AHEAD, one=FILLS, other=FILLS[1:]), dict(AHEAD, one=FILLS, other=FILLS[:1] + FILLS),
+        dict(AHEAD, one=(), other=()), dict(AHEAD, one=FILLS, other=FILLS[::-1]))
+CLAIMS = (("steady", OVEN, FUEL), ("steady", OVEN, ()), ("two", TWO, LEAD), ("kept", OVEN, (), TAKEN[0]),
+          ("kept", OUT, (), TAKEN[0]), ("steady", HOARD, PILING),
+          ("fits", PLAY, UNKNOWN, ()), ("fits", PLAY, UNKNOWN, ((2, 99),)), ("fits", PLAY, UNKNOWN, ((3, 1),)),
+          ("looks", CASES, FEED, TOLD, LOOKS, 2), ("looks", CASES, FEED, TOLD, LOOKS[:1], 0),
+          ("repair", YARD, ORDERS, 0, 1, 2), ("repair", YARD, ORDERS, 1, 2, 4), ("repair", YARD, ORDERS, 3, 2, 4),
+          ("start", OUT, FUEL, 1, 3, 9), ("start", OUT, (), 0, 3, 3), ("loud", OVEN), ("steady", OVEN), ("fits",))
+CLAIMED = tuple({"claim": claim} for claim in CLAIMS)
+BENCH = "fronts\ngo 2\nheat 1\nundo\nset 1 0 5 0 6\nstill\nredo\ncoal 0 3 3\nwood 9 1\nset 0 7 1"
 
 
 def each(plans, **more):
@@ -269,8 +293,75 @@ CALLS = {
     "looks_doubt": each(LOOKED, most=1),
     "is_looks_plan": each(LOOKED, most=1, thing=()),
     "is_looks_doubt": each(LOOKED, most=0, thing=((0, 1), ())),
+    "heat_account": PLAYS,
+    "is_account": each(PLAYS, thing=((0,) * 7,) * 3),
+    "flue_by_place": PLAYS,
+    "burnt_row": PLAYS,
+    "air_gains": PLAYS,
+    "bricks_account": PLAYS,
+    "drawn_by_place": PLAYS,
+    "good_share": PLAYS,
+    "kinds_that_fire": each(PLAYS, number=1) + each(PLAYS, number=-1),
+    "slag_made": PLAYS,
+    "soft_drawn": PLAYS,
+    "least_pieces": each(PLAYS, number=1, strength=9, kind=0, good=1) + each(PLAYS, number=0, strength=9, kind=2, good=0)
+    + each(PLAYS, number=4, strength=9, kind=2, good=0) + each(PLAYS, number=0, strength=9, kind=0, good=0),
+    "out_from": each(YARDS, number=0, long=1) + each(YARDS, number=4, long=1),
+    "loses_by": each(YARDS, repair=(0, 1, 1)) + each(YARDS, repair=(1, 0, 1)) + each(YARDS, repair=(-1, 0, 1)),
+    "repaired_run": each(YARDS, repair=(1, 1, 1)) + each(YARDS, repair=(0, 9, 1)),
+    "repair_at": each(YARDS, number=0, long=1) + each(YARDS, number=4, long=1),
+    "no_repair": each(YARDS, number=0, long=1) + each(YARDS, number=4, long=1),
+    "is_repair": each(YARDS, number=1, long=1, thing=1) + each(YARDS, number=4, long=1, thing=[]),
+    "is_no_repair": each(YARDS, number=0, long=1, thing=(("entered", 1),)) + each(YARDS, number=4, long=1, thing=[]),
+    "least_loss": each(YARDS, number=1, long=1) + each(YARDS, number=4, long=1),
+    "past_at": each(YARDS, repair=(2, 1, 1)) + each(YARDS, repair=(0, 9, 1)),
+    "jump_room": each(YARDS, number=2) + each(YARDS, number=4),
+    "longest_jump": YARDS,
+    "put_out": YARDS,
+    "fails_at": each(YARDS, start=(1, (3,))) + each(YARDS, start=(4, ())),
+    "is_start": each(YARDS, thing=(1, (8,))) + each(YARDS, thing=[1, (8,)]),
+    "catches_at": each(YARDS, start=(1, (9,))) + each(YARDS, start=(4, ())),
+    "first_round": each(YARDS, start=(1, (9,))) + each(YARDS, start=(-1, ())),
+    "least_wood": each(YARDS, number=1, most=9) + each(YARDS, number=4, most=9),
+    "start_paper": each(YARDS, number=1, most=3) + each(YARDS, number=4, most=9),
+    "is_start_paper": each(YARDS, number=1, most=1, thing=(1, 1)) + each(YARDS, number=4, most=9, thing=[]),
+    "start_at": each(YARDS, most=9),
+    "start_rows": each(YARDS, number=1, long=1, most=9) + each(YARDS, number=4, long=9, most=9)
+    + each(YARDS, number=0, long=9, most=9),
+    "wood_saved": each(YARDS, number=1, long=1, most=9) + each(YARDS, number=0, long=9, most=9),
+    "alike_rules": LIKE,
+    "alike_sizes": tuple({name: plan[name] for name in ("make", "one", "other")} for plan in LIKE),
+    "parting_works": LIKE,
+    "is_parting_works": each(LIKE, thing=ROUND) + each(LIKE, thing=listed_once(ROUND)),
+    "parting_places": LIKE,
+    "places_round": tuple({"rules": rules, "size": 4} for rules in (FILLS, FILL, ())),
+    "needed_rules": tuple(dict(AHEAD, rules=rules) for rules in (FILLS, FILLS + FILLS[:1], ())),
+    "order_free": tuple(dict(AHEAD, rules=rules) for rules in (FILLS, FILLS[:2], ())),
+    "swaps_free": tuple(dict(AHEAD, rules=rules) for rules in (FILLS, FILLS[:2], ())),
+    "first_unlike_tick": tuple(over(works, one=FUEL, other=other) for works in (OVEN, OUT) for other in (FUEL, ()))
+    + (over(HOARD, one=PILING, other=PILING),),
+    "alike_from": tuple(over(works, one=FUEL, other=other) for works in (OVEN, OUT) for other in (FUEL, ()))
+    + (over(HOARD, one=PILING, other=PILING),),
+    "is_claim": ({"thing": CLAIMS[0]}, {"thing": list(CLAIMS[0])}),
+    "is_so": CLAIMED,
+    "paper": CLAIMED,
+    "is_paper": each(CLAIMED, thing=(0, 1, 0)) + each(CLAIMED, thing=None),
+    "shows": each(CLAIMED, thing=(0, 1, 0)) + each(CLAIMED, thing=None),
+    "about": each(CLAIMED, rules=FEED),
+    "not_so": ({"claims": CLAIMS[:5]}, {"claims": ()}, {"claims": CLAIMS}),
+    "turned_by": ({"claims": CLAIMS[:5] + CLAIMS[6:9], "rules": ()}, {"claims": (), "rules": FEED},
+                  {"claims": CLAIMS, "rules": ()}),
+    "works_text": BOTH,
+    "rules_text": tuple({"rules": rules} for rules in (FEED, FILL, ())),
+    "deeds_text": ({"told": TOLD}, {"told": ()}),
+    "works_read": ({"text": "make 0 10 10 50 0\nkind 10 2 40" + "\nchamber 3 0 yes no no - empty" * 3 + "\nledger"
+                    + " 0" * 7}, {"text": ""}),
+    "rules_read": ({"text": "rule -1 if empty and below 20 do coal 5,6"}, {"text": "rule"}),
+    "deeds_read": ({"text": "at 1 0 set | 0 5"}, {"text": "at"}),
+    "is_request": ({"line": "heat 1"}, {"line": ""}),
+    "replies": (over(KILN, rules=FEED, text=BENCH), over(RING, rules=(), text=""), over(KILN, rules=(), text="go 0")),
 }
 
 # These return a list; all others return no list at any depth.
 LISTS = ("orders_that_fire", "heats_before", "deeds_here", "fires_of", "jumps", "acts_now", "apart_row", "starved_row",
-         "parted_by")
+         "parted_by", "repaired_run", "replies")

@@ -1,4 +1,4 @@
-"""The rows of the examples of [4] to [18], with the answer or the error that stands there."""
+"""The rows of the examples of [4] to [25], with the answer or the error that stands there."""
 
 
 KINDS = r'''
@@ -315,4 +315,144 @@ True
 True
 >>> looks_plan(cases, (), (), looks[:2], 3)
 raises NoPaper()
+'''
+
+REPAIRS = r'''
+>>> made, blank, shut = (((2, 1, 100),), 0, 8, 6, 50, 0), (0, 0, 0, 0, 0, 0, 0), (None, 0, 0, (), False, False, True)
+>>> yard = (made, ((None, 4, 0, (), True, False, True), shut, (None, 16, 0, (), True, True, True)), blank)
+>>> orders = ((0, (), ("coal", (8,))), (1, (("set",),), ("draw",)), (1, (("empty",),), ("set", ((0, 5),))))
+>>> out_from(yard, orders, 0, 1, 4), no_repair(yard, orders, 0, 1, 2), least_loss(yard, orders, 0, 1, 4)
+((1,), (('lost', 5), ('entered', 2)), (5, 1))
+>>> repair_at(yard, orders, 1, 2, 4), is_repair(yard, orders, 1, 2, 4, 3), is_repair(yard, orders, 1, 2, 4, 4), put_out(yard, orders, 3)
+(1, True, False, (2,))
+>>> repaired_run(yard, orders, (0, 1, 1), 3)[2][2]
+(3, 24, 0, 24, 5, 0, 0)
+>>> warm = (made, ((None, 40, 0, (20,), True, False, False), (None, 0, 0, (), False, False, False), (None, 0, 0, (8,), False, True, True)), blank)
+>>> past_at(warm, (), (1, 1, 1), 3), jump_room(warm, (), 1, 3), longest_jump(warm, (), 3)
+(2, (1,), (1, 0))
+>>> hall = (made, ((None, 40, 0, (), True, False, False), (None, 0, 0, (), False, True, True), shut), blank)
+>>> loses_by(hall, ((1, (("pieces", 1),), ("coal", (20,))),), (1, 1, 1), 6), loses_by(yard, orders, (1, 4, 1), 4)
+(('out', 4), None)
+>>> loses_by(yard, orders, (0, 4, 2), 4)
+raises NoTick(number=4)
+'''
+
+STARTS = r'''
+>>> stove = (made, ((None, 0, 0, (8, 8), True, True, True), shut, shut), blank)
+>>> least_wood(stove, (), 0, 3, 20), fails_at(stove, (), (0, (15,)), 6), fails_at(stove, (), (0, (14,)), 6), fails_at(stove, (), (1, (8,)), 6)
+(15, 4, 1, None)
+>>> start_rows(stove, (), 0, 3, 2, 15), wood_saved(stove, (), 0, 3, 2, 15), start_paper(stove, (), 0, 3, 3), start_at(stove, (), 3, 20)
+(((0, 15), (1, 14), (15, 0)), 0, (1, 1, 1, 1), (8, 1))
+>>> relay = (made, ((None, 0, 0, (8,), True, False, False), (None, 0, 0, (8,), False, True, True), shut), blank)
+>>> [fails_at(relay, (), (0, (wood,)), 4) for wood in (29, 30)], catches_at(relay, (), (0, (29,)), 4), catches_at(relay, (), (0, (30,)), 4)
+([None, 4], ((0, 1), (1, 2)), ((0, 1), (1, 1)))
+>>> first_round(relay, (), (0, (29,)), 4), first_round(warm, (), (0, ()), 3), is_start(relay, (), 4, (0, (29,))), is_start(relay, (), 4, [0, (29,)])
+(None, 2, True, False)
+>>> least_wood(stove, (), 0, 6, 20)
+raises NoPaper()
+>>> start_rows(stove, (), 0, 3, 3, 15)
+raises TooMany()
+'''
+
+ALIKE = r'''
+>>> bare, cold = (((20, 1, 90),), 0, 10, 8, 99, 0), (None, 0, 0, (), False, False, False)
+>>> fill, again = (1, (("pieces", 1),), ("coal", (12,))), (1, (("pieces", 2),), ("coal", (12,)))
+>>> alike_rules(bare, 3, (fill,), (fill, fill)), alike_rules(bare, 3, (fill,), (fill, again)), alike_sizes(bare, (fill,), ((4, fill[1], fill[2]),))
+(True, False, (3,))
+>>> hearth_one = (None, 12, 0, (), False, False, False)
+>>> lone, double = (bare, (hearth_one, cold, cold), (0,) * 7), (bare, (hearth_one, cold, hearth_one, cold), (0,) * 7)
+>>> is_parting_works(bare, 3, (fill,), (), lone), is_parting_works(bare, 3, (fill,), (fill, fill), lone), parting_places(bare, 3, (fill,), ())
+(True, False, (1,))
+>>> unbrick, wood = (1, (("from", 10),), ("open",)), (3, (), ("wood", 20))
+>>> [alike_rules(bare, 4, own, (wood,)) for own in ((wood, unbrick), (unbrick, wood))], alike_rules(bare, 3, (wood, unbrick), (wood,)), alike_rules(bare, 4, (unbrick,), ())
+([False, True], True, True)
+>>> is_parting_works(bare, 4, (wood, unbrick), (wood,), double), parting_places(bare, 4, (wood, unbrick), (wood,))
+(True, (1, 3))
+>>> closed, opened_up = (2, (("wicket", True),), ("brick",)), (2, (), ("open",))
+>>> order_free(bare, 3, (closed, opened_up)), order_free(bare, 3, (wood, unbrick)), order_free(bare, 4, (wood, unbrick)), swaps_free(bare, 3, (closed, opened_up, wood))
+(False, True, False, (1,))
+>>> places_round((wood, (-2, (), ("draw",))), 3) == ((0, (), ("wood", 20)), (1, (), ("draw",))), needed_rules(bare, 3, (fill, fill, unbrick))
+(True, (0,))
+>>> fed_fire, tend = (None, 20, 0, (20, 20), True, True, False), ((0, (("pieces", 1), ("from", 30)), ("coal", (20,))),)
+>>> hearth, low = [(bare, (fed_fire[:3] + (pile,) + fed_fire[4:], cold, cold), (0,) * 7) for pile in ((20, 20), ())]
+>>> first_unlike_tick(hearth, tend, ()), first_unlike_tick(hearth, tend, tend + tend), alike_from(low, tend, ())
+(3, None, True)
+>>> parting_works(bare, 3, (fill,), (fill, fill))
+raises NoPaper()
+'''
+
+ACCOUNTS = r'''
+>>> drawn = (lane, (), ((5, ("open", 2)), (5, ("draw", 2))), 5)
+>>> heat_account(drawn)
+((0, 0, 0, 0, 0, 0, 0), (12, 10, 0, 0, 20, 0, 2), (0, 0, 0, 20, 18, 0, 2))
+>>> flue_by_place(drawn), burnt_row(drawn), air_gains(drawn)
+((0, 0, 18), (10, 0, 0, 0, 0), (0, 0, 6))
+>>> bricks_account(drawn), drawn_by_place(drawn), good_share(drawn), good_share(four)
+(((5, 0, 5, 0, 0, 0),), ((0, 0, 0), (0, 0, 0), (5, 0, 0)), (1, 1), None)
+>>> kinds_that_fire(drawn, 1), kinds_that_fire(drawn, 0), slag_made(drawn), soft_drawn(drawn)
+((0,), (), (), ())
+>>> cold = (brick, (gate, ember[:3] + ((),) + ember[4:], lane[1][2]), lane[2])
+>>> [least_pieces((cold,) + drawn[1:], 1, strength, 0, 5) for strength in (10, 2)], soft_drawn((cold,) + drawn[1:])
+([1, None], ((5, 2),))
+>>> is_account(four, ((0, 0, 0, 0, 0, 0, 0), (12, 10, 0, 0, 20, 0, 2), (0, 0, 0, 20, 16, 0, 4))), is_account(four, heat_account(drawn))
+(True, False)
+>>> kinds_that_fire(four, 3)
+raises NoChamber(number=3)
+'''
+
+JUDGE = r'''
+>>> craft, noughts = (((900, 1, 900),), 0, 4, 4, 900, 4), (0, 0, 0, 0, 0, 0, 0)
+>>> lit, cold, dead = (None, 8, 0, (), True, True, True), (None, 0, 0, (), False, False, True), (None, 0, 0, (), True, True, True)
+>>> stove, ash, fuel = (craft, (lit, cold, cold), noughts), (craft, (dead, cold, cold), noughts), ((0, (("pieces", 1),), ("coal", (6,))),)
+>>> firm, loose = ("steady", stove, fuel), ("steady", stove, ())
+>>> [shows(firm, own) for own in ((0, 1, 0), (3, 2, 0), (0, 1, 1), 1)], [shows(loose, own) for own in (0, 1, 2, (0, 1, 0))]
+([True, True, None, None], [None, False, False, None])
+>>> not_so((firm, loose)), about(loose, fuel) == firm, turned_by((firm, loose), ()), turned_by((firm, loose), fuel)
+((1,), True, (0,), (1,))
+>>> paper(("start", ash, fuel, 0, 5, 6)), paper(("start", ash, fuel, 0, 5, 7))
+((1, 1, 1, 1, 1, 1, 1), (0, (7,)))
+>>> is_claim(firm), is_claim(firm[:2]), is_claim(("steady", stove, ((0, (), ("set", ((1, 5),))),))), is_claim(("start", ash, fuel, 3, 5, 6))
+(True, False, False, False)
+>>> about(("fits", (stove, (), (), 1), ((), (None,)), ()), fuel)
+raises Unfit()
+>>> is_so(("loud", stove))
+raises NoWord(word='loud')
+'''
+
+TEXTS = r'''
+>>> lines = works_text(ring).split("\n")
+>>> lines[:3], lines[3:]
+(['make 0 10 10 50 0', 'kind 10 2 40', 'chamber 30 0 yes no no 8 empty'], ['chamber 0 0 no yes yes - empty', 'chamber 0 0 no no yes - empty', 'ledger 0 0 0 0 0 0 0'])
+>>> stoke = ((-1, (("empty",), ("below", 20)), ("coal", (5, 6))), (2, (), ("set", ((0, 5), (0, 1)))))
+>>> rules_text(stoke), rules_read("rule 0 if wicket no do open") == ((0, (("wicket", False),), ("open",)),)
+('rule -1 if empty and below 20 do coal 5,6\nrule 2 do set | 0 5 | 0 1', True)
+>>> deeds_text(((3, ("draw", 0)), (3, ("damper", 2, True)))), deeds_read("at 1 0 wood 7"), works_read(works_text(warm)) == warm
+('at 3 0 draw\nat 3 2 damper yes', ((1, ('wood', 0, 7)),), True)
+>>> works_read("make 0 10 10 50 0\nkind 10 2 9")
+raises BadLine(number=1)
+>>> deeds_read("at 2 0 draw\nat 1 0 clear")
+raises BadLine(number=1)
+'''
+
+BOARD = r'''
+>>> plain = (((20, 1, 60),), 0, 15, 12, 90, 0)
+>>> row = ((None, 40, 0, (), True, False, False), (None, 20, 0, (30,), False, False, False), (None, 0, 0, (), False, True, True))
+>>> kiln, feed = (plain, row, (0,) * 7), ((1, (("pieces", 1),), ("coal", (30,))),)
+>>> page = Board(kiln, feed)
+>>> page.fronts_now(), page.go(1), page.works_now()[1][1:], page.works_now()[2][:4]
+((1,), None, ((None, 50, 0, (), False, False, False), (None, 10, 0, (30,), False, True, True)), (1, 10, 0, 30))
+>>> page.go(1), [part[1] for part in page.works_now()[1]], page.fronts_now(), page.works_now()[2][:4], len(page)
+(None, [10, 30, 50], (2,), (2, 30, 0, 60), 2)
+>>> page.lay(("set", 0, ((0, 100),))), page.works_now()[1][0][:3], page.undo()[1][0], page.undo(), page.redo(), page.moves()
+(None, (((0, 100, 0),), 10, 10), 'set', ('go', 1), ('go', 1), [('go', 1), ('go', 1)])
+>>> page.do(("still",)), [part[1] for part in page.works_now()[1]], page.fronts_now()
+(None, [10, 30, 50], (2,))
+>>> page.lay(("draw", 1))
+raises Unfit()
+>>> page.lay(("brick", 3))
+raises NoChamber(number=3)
+>>> replies(kiln, feed, "fronts\ngo 2\nheat 2\nfronts\nset 0 0 100\nset 0 0 100\nset 5 1 1\nbrick 0\nundo\nheat 3")
+['1', 'done', '50', '2', 'done', 'no Unfit', 'no NoChamber', 'done', 'done', 'no NoChamber']
+>>> replies(kiln, (), "fronts\ngo 0")
+raises BadLine(number=1)
 '''

@@ -2,12 +2,14 @@
 
 import copy
 
-from ringkiln.errors import NoChamber, NoChoice, NoKind, NoPaper, NoRule, NoTick, TooMany, Unfit
+from ringkiln.errors import (BadLine, NoChamber, NoChoice, NoKind, NoPaper, NoRule, NoTick, NothingDone, NoWord, TooMany,
+                             Unfit)
 
 NOUGHTS = (0, 0, 0, 0, 0, 0, 0)
 SHUT = (None, 0, 0, (), False, False, True)
 MODULES = ("kinds", "chambers", "draughts", "ticks", "deeds", "runs", "fires", "rules", "steady", "pairs", "keeping",
-           "saving", "stills", "back", "looks")
+           "saving", "stills", "back", "looks", "accounts", "repairs", "starts", "alike", "judge", "texts", "board", "desk")
+ERRORS = (BadLine, NoChamber, NoChoice, NoKind, NoPaper, NoRule, NoTick, NothingDone, NoWord, TooMany, Unfit)
 
 
 def strictly(one, other):
@@ -38,7 +40,7 @@ def answer(function, *values):
     """What a call returns, or the name and the attributes of the error that it raises."""
     try:
         return function(*values)
-    except (NoChamber, NoChoice, NoKind, NoPaper, NoRule, NoTick, TooMany, Unfit) as error:
+    except ERRORS as error:
         return "raises", type(error).__name__, tuple(sorted(vars(error).items()))
 
 

@@ -1,4 +1,4 @@
-"""Every row of the examples of [4] to [18]."""
+"""Every row of the examples of [4] to [25]."""
 
 import importlib
 import unittest
@@ -9,7 +9,7 @@ from tests.support import MODULES, strictly
 
 # As the sections stand in the document, where names go on from one to the next.
 SECTIONS = ("kinds", "chambers", "draughts", "ticks", "deeds", "runs", "fires", "rules", "steady", "pairs", "saving",
-            "keeping", "stills", "back", "looks")
+            "keeping", "stills", "back", "looks", "repairs", "starts", "alike", "accounts", "judge", "texts", "board")
 
 
 def all_names():
@@ -53,8 +53,8 @@ class Examples(unittest.TestCase):
                 with self.subTest(module=module, row=row):
                     self.check(row, below, names)
                 rows += 1
-        self.assertEqual(sorted(SECTIONS), sorted(MODULES))
-        self.assertEqual(rows, 165)
+        self.assertEqual(sorted(SECTIONS + ("desk",)), sorted(MODULES))
+        self.assertEqual(rows, 238)
 
 
 if __name__ == "__main__":

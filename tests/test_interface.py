@@ -6,7 +6,7 @@ import inspect
 import pathlib
 import unittest
 
-from ringkiln import errors
+from ringkiln import board, errors
 
 PACKAGE = pathlib.Path(__file__).resolve().parent.parent / "ringkiln"
 
@@ -79,10 +79,37 @@ INTERFACE = {
              "looks_needed(cases,rules,told,looks) looks_plan(cases,rules,told,looks,most) "
              "looks_doubt(cases,rules,told,looks,most) is_looks_plan(cases,rules,told,looks,most,thing) "
              "is_looks_doubt(cases,rules,told,looks,most,thing)",
+    "accounts": "heat_account(play) is_account(play,thing) flue_by_place(play) burnt_row(play) air_gains(play) "
+                "bricks_account(play) drawn_by_place(play) good_share(play) kinds_that_fire(play,number) "
+                "slag_made(play) soft_drawn(play) least_pieces(play,number,strength,kind,good)",
+    "repairs": "out_from(works,rules,number,long,many) loses_by(works,rules,repair,many) "
+               "repaired_run(works,rules,repair,many) repair_at(works,rules,number,long,many) "
+               "no_repair(works,rules,number,long,many) is_repair(works,rules,number,long,many,thing) "
+               "is_no_repair(works,rules,number,long,many,thing) least_loss(works,rules,number,long,many) "
+               "past_at(works,rules,repair,many) jump_room(works,rules,number,many) "
+               "longest_jump(works,rules,many) put_out(works,rules,many)",
+    "starts": "fails_at(works,rules,start,many) is_start(works,rules,many,thing) "
+              "catches_at(works,rules,start,many) first_round(works,rules,start,many) "
+              "least_wood(works,rules,number,many,most) start_paper(works,rules,number,many,most) "
+              "is_start_paper(works,rules,number,many,most,thing) start_at(works,rules,many,most) "
+              "start_rows(works,rules,number,many,long,most) wood_saved(works,rules,number,many,long,most)",
+    "alike": "alike_rules(make,size,one,other) alike_sizes(make,one,other) parting_works(make,size,one,other) "
+             "is_parting_works(make,size,one,other,thing) parting_places(make,size,one,other) "
+             "places_round(rules,size) needed_rules(make,size,rules) order_free(make,size,rules) "
+             "swaps_free(make,size,rules) first_unlike_tick(works,one,other) alike_from(works,one,other)",
+    "judge": "is_claim(thing) is_so(claim) paper(claim) is_paper(claim,thing) shows(claim,thing) about(claim,rules) "
+             "not_so(claims) turned_by(claims,rules)",
+    "texts": "works_text(works) rules_text(rules) deeds_text(told) works_read(text) rules_read(text) deeds_read(text)",
+    "desk": "is_request(line) replies(works,rules,text)",
 }
 
+# Those of the class Board, behind self.
+METHODS = "__init__(works,rules) works_now() moves() do(move) lay(deed) go(many) undo() redo() fronts_now() " \
+          "__eq__(other) __len__()"
+
 ORDER = ["shapes", "errors", "kinds", "chambers", "draughts", "ticks", "deeds", "runs", "fires", "rules", "steady", "pairs",
-         "keeping", "saving", "stills", "back", "looks"]
+         "keeping", "saving", "stills", "back", "looks", "accounts", "repairs", "starts", "alike", "judge", "texts", "board",
+         "desk"]
 
 ERRORS = {
     LookupError: {"NoChamber": ["number"], "NoKind": ["number"], "NoTick": ["number"], "NoRule": ["number"],
@@ -102,11 +129,20 @@ class Interface(unittest.TestCase):
                     self.assertEqual(function.__module__, "ringkiln." + module)
                     self.assertEqual(list(inspect.signature(function).parameters), parameters.split(","))
 
+    def test_the_methods_of_a_board_stand_in_the_class_itself(self):
+        self.assertEqual(board.Board.__module__, "ringkiln.board")
+        self.assertEqual(board.Board.__bases__, (object,))
+        for told in METHODS.split():
+            name, parameters = told.rstrip(")").split("(")
+            with self.subTest(name=name):
+                method = vars(board.Board)[name]
+                self.assertEqual(list(inspect.signature(method).parameters)[1:], [own for own in parameters.split(",") if own])
+
     def test_a_file_draws_from_those_ahead_of_it(self):
         self.assertEqual(sorted(path.stem for path in PACKAGE.glob("*.py")), sorted(ORDER + ["__init__"]))
         for path in PACKAGE.glob("*.py"):
             for node in ast.walk(ast.parse(path.read_text())):
-                if isinstance(node, ast.ImportFrom):
+                if isinstance(node, ast.ImportFrom) and node.module != "math":
                     with self.subTest(file=path.name, module=node.module):
                         package, drawn = node.module.split(".")
                         self.assertEqual(package, "ringkiln")

@@ -11,11 +11,13 @@ NODES = (
     "Module Expr Constant ImportFrom alias FunctionDef arguments arg ClassDef Return Assign AugAssign If While For Break "
     "Continue Pass Raise Call Name Load Store Attribute Subscript Slice Tuple List Dict ListComp DictComp Lambda "
     "comprehension BinOp "
-    "UnaryOp BoolOp Compare IfExp And Or Not USub Add Sub Mult FloorDiv Mod Eq NotEq Lt LtE Gt GtE Is IsNot In NotIn"
+    "UnaryOp BoolOp Compare IfExp And Or Not USub Add Sub Mult FloorDiv Mod Eq NotEq Lt LtE Gt GtE Is IsNot In NotIn "
+    "Try ExceptHandler JoinedStr FormattedValue"
 ).split()
 BUILTINS = "all any bool enumerate int isinstance len list max min range sorted str sum tuple type zip " \
            "LookupError ValueError".split()
-METHODS = "append extend get index items setdefault".split()
+METHODS = "append count extend get index items join pop setdefault split".split()
+LIBRARY = {"math": ["gcd"]}
 AT_ONCE = ("enumerate", "zip", "range", "reversed")
 TAKERS = ("all", "any", "enumerate", "list", "max", "min", "sorted", "sum", "tuple", "zip")
 NEVER = "mro elements open input law version_info with_traceback add_note register".split()
@@ -67,7 +69,7 @@ class Files(unittest.TestCase):
             for node in ast.walk(tree):
                 if isinstance(node, ast.FunctionDef):
                     self.assertLessEqual(node.end_lineno - node.lineno + 1, 40, node.name)
-                    self.assertTrue(ast.get_docstring(node) or node.name == "__init__", node.name)
+                    self.assertTrue(ast.get_docstring(node) or node.name[:2] == "__", node.name)
         self.each_tree(check)
 
     def test_nodes(self):
@@ -103,7 +105,10 @@ class Files(unittest.TestCase):
         def check(path, tree):
             used = [node.id for node in ast.walk(tree) if isinstance(node, ast.Name)]
             for node in tree.body:
-                if isinstance(node, ast.ImportFrom):
+                if isinstance(node, ast.ImportFrom) and node.module in LIBRARY:
+                    self.assertEqual([(alias.name, alias.asname) for alias in node.names],
+                                     [(name, None) for name in LIBRARY[node.module]])
+                elif isinstance(node, ast.ImportFrom):
                     self.assertEqual(node.level, 0)
                     there = self.trees[PACKAGE / (node.module.split(".")[1] + ".py")]
                     defined = [own.name for own in there.body if isinstance(own, (ast.FunctionDef, ast.ClassDef))]
@@ -123,7 +128,7 @@ class Files(unittest.TestCase):
             for name in bound_names(tree):
                 self.assertNotIn(name, dir(builtins))
                 self.assertNotIn(name, NEVER + BARRED)
-                self.assertRegex(name, r"^(_|__init__|[A-Za-z][A-Za-z0-9_]*)$")
+                self.assertRegex(name, r"^(_|__init__|__eq__|__len__|[A-Za-z][A-Za-z0-9_]*)$")
             for node in ast.walk(tree):
                 if isinstance(node, ast.FunctionDef):
                     for name in bound_names(node):
@@ -142,17 +147,48 @@ class Files(unittest.TestCase):
                 self.assertEqual(node.keywords, [])
                 self.assertFalse(any(isinstance(value, ast.Starred) for value in node.args))
                 if isinstance(node.func, ast.Attribute):
-                    self.assertIn(node.func.attr, METHODS)
+                    self.assertIn(node.func.attr, METHODS + self.own_methods())
+                    self.assertTrue(node.func.attr != "join" or isinstance(node.func.value, ast.Constant))
                     parent = parents[node]
                     iterated = isinstance(parent, (ast.For, ast.comprehension)) and parent.iter is node
                     self.assertTrue(iterated or node.func.attr != "items", node.lineno)
                 elif node.func.id in AT_ONCE:
                     parent = parents[node]
                     iterated = isinstance(parent, (ast.For, ast.comprehension)) and parent.iter is node
-                    taken = isinstance(parent, ast.Call) and parent.func.id in TAKERS
+                    taken = isinstance(parent, ast.Call) and isinstance(parent.func, ast.Name) \
+                        and parent.func.id in TAKERS
                     self.assertTrue(iterated or taken, node.lineno)
                 elif node.func.id == "type":
                     self.assertIsInstance(parents[node], ast.Compare)
+        self.each_tree(check)
+
+    def own_methods(self):
+        """The methods of the classes that are no errors."""
+        tree = self.trees[PACKAGE / "board.py"]
+        return [node.name for own in tree.body if isinstance(own, ast.ClassDef) for node in own.body
+                if isinstance(node, ast.FunctionDef)]
+
+    def test_no_attribute_is_a_method(self):
+        self.assertFalse(set(self.own_methods()) & set(METHODS))
+        for path, tree in self.trees.items():
+            for node in ast.walk(tree):
+                if isinstance(node, ast.Attribute) and isinstance(node.ctx, ast.Store):
+                    self.assertNotIn(node.attr, METHODS + self.own_methods())
+                    self.assertEqual(node.value.id, "self")
+
+    def test_what_is_caught(self):
+        owns = [node.name for node in self.trees[PACKAGE / "errors.py"].body if isinstance(node, ast.ClassDef)]
+
+        def check(path, tree):
+            for node in ast.walk(tree):
+                if isinstance(node, ast.Try):
+                    self.assertFalse(node.finalbody or node.orelse)
+                    self.assertEqual(len(node.body), 1)
+                if isinstance(node, ast.ExceptHandler):
+                    self.assertIn(node.type.id, owns)
+                    self.assertIsNone(node.name)
+                if isinstance(node, ast.Raise):
+                    self.assertIn(node.exc.func.id, owns)
         self.each_tree(check)
 
     def test_is_and_strings(self):
