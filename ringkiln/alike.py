@@ -75,11 +75,15 @@ def walked(make, chamber, rows):
     return now[1:], cuts
 
 
-def chamber_of(box, top, bricks):
-    """The least CHAMBER of a box, with this top if it has a load, of so many bricks."""
+def chamber_of(box):
+    """The least CHAMBER of a box, of one brick if it has a load.
+
+    What a SET has stood, how many bricks there are and tops part no RULES that are alike for this one: no TEST looks at
+    them, what is drawn or cleared is told by the LEDGER, and a top that is made new is the heat at the end of step 2.
+    """
     load, heat, pieces, wicket, damper, screen = [least for least, _ in box]
-    loads = (None, ((0, bricks, 0),), bricks)
-    return loads[load], heat, top if load > 0 else 0, (1,) * pieces, wicket == 1, damper == 1, screen == 1
+    loads = (None, ((0, 1, 0),), 1)
+    return loads[load], heat, 0, (1,) * pieces, wicket == 1, damper == 1, screen == 1
 
 
 def halves_of(box, cuts):
@@ -91,20 +95,9 @@ def halves_of(box, cuts):
     return None
 
 
-def greatest_in(rows):
-    """Of rows of bare_rules the greatest heat and pieces of TESTS, all wood together, the greatest count of GREEN."""
-    heat, pieces, wood, bricks = 0, 0, 0, 0
-    for when, act in rows:
-        for test in when:
-            if test[0] in ("below", "from"):
-                heat = max(heat, test[1])
-            if test[0] == "pieces":
-                pieces = max(pieces, test[1])
-        if act[0] == "wood":
-            wood += act[1]
-        if act[0] == "set":
-            bricks = max([bricks] + [count for _, count in act[1]])
-    return heat, pieces, wood, bricks
+def greatest_in(rows, words):
+    """The greatest number in TESTS with these words, of rows of bare_rules; 0 without one."""
+    return max([0] + [test[1] for when, _ in rows for test in when if test[0] in words])
 
 
 def leaves_of(make, heats, one, other):
@@ -112,23 +105,21 @@ def leaves_of(make, heats, one, other):
 
     heats is a pair, its second None for all from the first on; one and other are rows of bare_rules.
     """
-    heat, pieces, wood, bricks = greatest_in(one + other)
-    bound = heats[1] if heats[1] is not None else max(heats[0], heat) + 1
-    rest = ((heats[0], bound), (0, pieces + 1), (0, 2), (0, 2), (0, 2))
+    bound = heats[1] if heats[1] is not None else 1 + max(heats[0], greatest_in(one + other, ("below", "from")))
+    pieces = greatest_in(one + other, ("pieces",))
     # The last one is taken first.
-    boxes = [((load, load + 1),) + rest for load in (2, 1, 0)]
+    boxes = [((load, load + 1), (heats[0], bound), (0, pieces + 1), (0, 2), (0, 2), (0, 2)) for load in (2, 1, 0)]
     leaves = []
     while boxes != []:
         box = boxes.pop()
-        chamber = chamber_of(box, 0, bricks + 1)
-        halves = halves_of(box, walked(make, chamber, one)[1] + walked(make, chamber, other)[1])
-        if halves is not None:
-            boxes.extend(halves)
+        chamber = chamber_of(box)
+        behind, cuts = walked(make, chamber, one)
+        other_behind, more_cuts = walked(make, chamber, other)
+        halves = halves_of(box, cuts + more_cuts)
+        if halves is None:
+            leaves.append((chamber, behind, other_behind))
         else:
-            # A top of 0 tells a raised one from one that stays; one above all that wood makes, a new one from both.
-            for top in (0, bound + wood):
-                chamber = chamber_of(box, top, bricks + 1)
-                leaves.append((chamber, walked(make, chamber, one)[0], walked(make, chamber, other)[0]))
+            boxes.extend(halves)
     return leaves
 
 
@@ -187,19 +178,18 @@ def hot_around(make, size, places, chamber):
     """The numbers of the CHAMBERS to be hot where CHAMBER 0, this one, lies at just these places."""
     fronts = [-place % size for place in places]
     hot = list(fronts)
-    if chamber[HEAT] >= make[KINDLING] and 0 not in fronts:
+    if chamber[HEAT] >= make[KINDLING]:
         hot.extend(list(range(min(fronts))))
     return hot
 
 
 def calm_chamber(make, size, places, is_hot, one, other):
-    """A CHAMBER, hot or not, at these places to which RULES do the same, or else unlike things to itself."""
+    """A CHAMBER, hot or not, at these places to which RULES do the same, if there is one."""
     heats = (make[KINDLING], None) if is_hot else (0, make[KINDLING])
     rows = bare_rules(make, one, size, places)
     leaves = leaves_of(make, heats, rows, bare_rules(make, other, size, places))
     calm = [chamber for chamber, behind, other_behind in leaves if behind == other_behind]
-    unlike = [chamber for chamber, behind, other_behind in leaves if behind[0] != other_behind[0]]
-    return (calm + unlike + [leaves[0][0]])[0]
+    return calm[0] if calm != [] else leaves[0][0]
 
 
 def parting_works(make, size, one, other):

@@ -139,7 +139,7 @@ def is_claim(thing):
 def need_claim(claim):
     """The CLAIM as a tuple; NoWord or Unfit if it is none by its word or its count."""
     own = tupled(claim)
-    if not isinstance(own[0], str) or own[0] not in LENGTHS:
+    if own[0] not in LENGTHS:
         raise NoWord(own[0])
     if len(own) != LENGTHS[own[0]]:
         raise Unfit()

@@ -135,9 +135,8 @@ def pile_read(word, at):
 
 
 def rows_read(words, many, at):
-    """The tuple of the tuples of many numbers, each with | ahead, that words are."""
+    """The tuple of the tuples of many numbers, each with | ahead, that words are, the last one maybe too short."""
     long = many + 1
-    need_so(len(words) % long == 0, at)
     starts = list(range(0, len(words), long))
     need_so(all([words[start] == "|" for start in starts]), at)
     return tuple([numbers_read(words[start + 1:start + long], at) for start in starts])
@@ -171,7 +170,6 @@ def value_read(word, value, at):
 
 def test_read(words, at):
     """The TEST that words are."""
-    need_so(len(words) in (1, 2), at)
     test = tuple(words[:1] + [value_read(words[0], value, at) for value in words[1:]])
     need_so(is_test(test), at)
     return test
@@ -183,7 +181,6 @@ def act_read(words, at):
     if words[0] == "set":
         act = ("set", rows_read(words[1:], 2, at))
     else:
-        need_so(len(words) < 3, at)
         act = tuple(words[:1] + [value_read(words[0], value, at) for value in words[1:]])
     need_so(is_act(act), at)
     return act
@@ -203,7 +200,7 @@ def parted_at(words, mark):
 def rule_read(line, at):
     """The RULE that a line is."""
     words = words_of(line, at)
-    need_so(words[0] == "rule" and words.count("do") == 1 and len(words) > 3, at)
+    need_so(words[0] == "rule" and words.count("do") == 1, at)
     place = number_read(words[1], at)
     split = words.index("do")
     need_so(split == 2 or words[2] == "if", at)

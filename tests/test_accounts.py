@@ -94,6 +94,15 @@ class Heat(unittest.TestCase):
         self.assertIsNone(good_share((works, (), (), 5)))
         self.assertEqual((slag_made((works, (), (), 5)), soft_drawn((works, (), (), 5))), ((), ()))
 
+    def test_a_fire_of_all_and_a_works_that_is_out(self):
+        rules = ((0, (), ("wood", 5)), (1, (), ("coal", (3,))), (1, (("set",),), ("draw",)))
+        for heat in (9, 3):
+            works = works_of(part(heat, (4,), "wd", ((0, 3, 0),)), part(heat), part(heat))
+            play = (works, rules, (), 1)
+            self.assertEqual(heat_account(play)[1:], ((heat, 0, 0, 0, 0, 0, heat),) * 2)
+            self.assertEqual(burnt_row(play), (4,) if heat == 9 else (0,))
+            self.assertEqual((good_share(play), drawn_by_place(play)), (None, ((0, 0, 0),) * 3))
+
     def test_gains_do_not_count_losses_nor_other_loads(self):
         # Behind tick 1 the SET has 3 more, behind tick 2 again, then it loses one, then one more.
         self.assertEqual([air_gains((LANE, (), (), many))[2] for many in (1, 2, 3, 4)], [3, 6, 6, 6])
@@ -265,7 +274,7 @@ class Pieces(unittest.TestCase):
                 found[expected] = found.get(expected, 0) + 1
         self.assertGreater(found[None], 20)
         self.assertGreater(sum(many for pieces, many in found.items() if pieces), 25)
-        self.assertGreater(len(found), 7)
+        self.assertGreater(len(found), 5)
 
     def test_none_and_twelve(self):
         # 8 is 4 behind the air, 12 with a piece of 8; then 6 and 14, 7 and 15, 8 and 16, and so on with each piece; then 8.

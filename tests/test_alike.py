@@ -215,6 +215,17 @@ class Alike(unittest.TestCase):
         self.check_parting(BARE, 4, one, two[2:])
         self.check_parting(BARE, 4, two, one)
 
+    def test_another_chamber_does_not_make_up_for_it(self):
+        # What CHAMBERS at 1 have more by one, those at 3 that are empty and cool have more by other, bricked up or not.
+        one = ((1, (), ("set", ((0, 5),))), (1, (), ("draw",)), (3, (), ("open",)), (3, (), ("draw",)))
+        other = ((1, (), ("draw",)), (3, (), ("open",)), (3, (), ("set", ((0, 5),))), (3, (), ("draw",)))
+        for size in (4, 5, 12):
+            self.assertEqual(self.check_parting(BARE, size, one, other), 0)
+            self.assertEqual(parting_places(BARE, size, one, other), (1,))
+        lone = (BARE, ((None, 0, 0, (), True, False, False), COLD, COLD, (None, 10, 0, (), False, False, False)), NOUGHTS)
+        self.assertEqual(plain_ruled(lone, one), plain_ruled(lone, other))
+        self.assertIs(is_parting_works(BARE, 4, one, other, lone), False)
+
     def test_ledger_rules_at_random(self):
         acts = [("set", ((0, 3),)), ("set", ((0, 5),)), ("draw",), ("clear",), ("open",)]
         unlike = []
@@ -250,6 +261,28 @@ class Alike(unittest.TestCase):
             self.assertEqual(len(parting_works(BARE, 5, one, other)[1][0][3]), many)
             coal = ((2, (), ("coal", (4, 4))),)
             self.assertIs(alike_rules(BARE, 5, coal + one, coal + other), many < 2)
+
+    def test_a_test_or_none(self):
+        for test, only in ((("below", 7), 7), (("from", 7), 0), (("pieces", 7), 0), (("pieces", 1), 0), (("below", 1), 1), (("from", 1), 0)):
+            one, other = ((2, (test,), ("open",)),), ((2, (), ("open",)),)
+            self.assertEqual(self.check_parting(BARE, 5, one, other), 1)
+            works = parting_works(BARE, 5, one, other)
+            self.assertEqual((works[1][0][1], len(works[1][0][3])), (only, test[1] if test[0] == "pieces" else 0))
+
+    def test_several_numbers_of_pieces(self):
+        for first, second in ((2, 5), (5, 2), (1, 60), (12, 13)):
+            one = ((2, (("pieces", first),), ("open",)), (2, (("pieces", second),), ("damper", True)))
+            for other in (((2, (("pieces", first),), ("open",)), (2, (("pieces", second + 1),), ("damper", True))),
+                          ((2, (("pieces", first + 1),), ("open",)), (2, (("pieces", second),), ("damper", True)))):
+                self.check_parting(BARE, 5, one, other)
+
+    def test_a_hot_chamber_with_two_fronts(self):
+        # Fed by the first RULE that reaches it, if it is hot: so it lies in a FIRE behind the front ahead of it.
+        rules = tuple((place, (("from", 30), ("pieces", 1)), ("coal", (place,))) for place in (2, 5))
+        self.assertEqual(self.check_parting(BARE, 8, rules, rules[::-1]), 1)
+        works = parting_works(BARE, 8, rules, rules[::-1])
+        self.assertEqual((parting_places(BARE, 8, rules, rules[::-1]), oracle.fronts(works)), ((2, 5), [3, 6]))
+        self.assertEqual([chamber[1] >= 10 for chamber in works[1]], [True, True, True, True, False, False, True, False])
 
     def test_kindling_at_0_and_1(self):
         # The front has kindling, 10, or more, the one ahead of it less; a CHAMBER at 2 any heat.
@@ -395,6 +428,11 @@ class Rules(unittest.TestCase):
 
 
 class Judge(unittest.TestCase):
+    def test_a_fire_of_all_is_no_parting(self):
+        for heats in ((12, 12, 12), (0, 0, 0)):
+            works = works_of(*[part(heat) for heat in heats], make=BARE)
+            self.assertIs(is_parting_works(BARE, 3, (FILL, WOOD, UNBRICK), (), works), False)
+
     def test_things(self):
         one, other = (FILL,), ()
         works = (BARE, ((None, 12, 0, (), False, False, False), COLD, COLD), NOUGHTS)
@@ -480,6 +518,18 @@ class Runs(unittest.TestCase):
         self.assertEqual(first_unlike_tick(high, one, other), 1)
         self.assertIsNone(first_unlike_tick(works, one, one))
 
+    def test_tops_part_runs_late_in_a_round(self):
+        # Heats of 1 and 3 go 3, 2, 1, 3 ..: at 2 one of them is drawn and set anew, at 1 wood raises both tops.
+        make = (((90, 1, 90),), 0, 10, 8, 99, 2)
+        hot, ware = (None, 20, 0, (), False, False, True), ((0, 5, 0),)
+        works = (make, (hot, (ware, 3, 2, (), True, False, True), hot, (ware, 3, 2, (), True, False, False)), NOUGHTS)
+        one, other = [((0, (), ("wood", 20)), (1, (("screen", yes), ("from", 2), ("below", 3)), ("draw",)),
+                       (1, (("empty",),), ("set", ((0, 5),))), (1, (("below", 2),), ("wood", 5))) for yes in (True, False)]
+        rows = oracle.rows_by(works, one, 8)
+        self.assertEqual([oracle.seen(rows[tick]) == oracle.seen(works) for tick in (1, 2, 3)], [False, False, True])
+        self.assertEqual(self.plain(works, one, other, 40), 5)
+        self.assertEqual(first_unlike_tick(works, one, other), 5)
+
     def test_a_works_that_is_out(self):
         works = works_of(part(3, (5,), "wd"), part(2), part(), make=BARE)
         self.assertIsNone(first_unlike_tick(works, (FILL,), ()))
@@ -496,7 +546,8 @@ class Runs(unittest.TestCase):
         self.assertEqual(answer(first_unlike_tick, works, pile, pile), raised("TooMany"))
         self.assertEqual(answer(alike_from, works, pile, pile), raised("TooMany"))
         self.assertEqual(first_unlike_tick(works, pile, ()), 1)
-        for tick, expected in ((2, 2), (3900, 3900), (4100, raised("TooMany"))):
+        for tick, expected in ((2, 2), (4000, 4000), (4001, raised("TooMany"))):
+            # Ahead of this tick tick unlike ones have come; the wood of the tick itself is put in first.
             late = pile + ((0, (("from", 8 + tick),), ("open",)),)
             self.assertEqual(answer(first_unlike_tick, works, pile, late), expected)
 

@@ -4,7 +4,7 @@ import re
 import unittest
 
 from ringkiln.board import Board
-from ringkiln.desk import is_request, replies
+from ringkiln.desk import deed_in, is_request, replies
 from tests.support import Numbers, answer, kept, listed, raised, strictly
 from tests.test_back import part, works_of
 from tests.test_board import some_case
@@ -140,6 +140,12 @@ class Replies(unittest.TestCase):
         fronts = " ".join(map(str, board.fronts_now())) or "-"
         self.assertEqual(replies(works, (), text),
                          ["done"] * 8 + ["no Unfit", "done", "done", fronts, str(board.works_now()[1][1][1])])
+
+    def test_the_deed_of_a_request(self):
+        for line, deed in (("set 1 0 4", ("set", 1, ((0, 4),))), ("set 12 0 4 2 6 3 9", ("set", 12, ((0, 4), (2, 6), (3, 9)))),
+                           ("coal 3 5 6 6", ("coal", 3, (5, 6, 6))), ("wood 2 9", ("wood", 2, 9)), ("draw 4", ("draw", 4)),
+                           ("damper 1 yes", ("damper", 1, True)), ("screen 0 no", ("screen", 0, False)), ("open 10", ("open", 10))):
+            self.assertTrue(strictly(deed_in(line.split(" ")), deed))
 
     def test_a_new_board_each_time_and_new_lists(self):
         works, rules = some_case(7)

@@ -378,7 +378,8 @@ class Shapes(unittest.TestCase):
         self.bent(fits, 1, ((works, (), (), 1), (works, rules, ((1, ("open", 2)),) * 70, 99)), True)
         begun, faults = UNKNOWN
         self.bent(fits, 2, ((begun,), (begun, faults, ()), (begun, ()), (begun, None), (None, faults), (begun, (("damp", 3),)),
-                            (begun, (("loud", 0),)), (begun, (0,)), (begun, (("damp", -1),)), (begun, ([],)),
+                            (begun, (("loud", 0),)), (begun, (None, ("damp", 3))), (begun, (("damp", 3), None)),
+                             (begun, (0,)), (begun, (("damp", -1),)), (begun, ([],)),
                             (((0, (7, 9)), (0, (1,))), faults), (((3, (1,)),), faults), (((-1, (1,)),), faults),
                             (((0, ()),), faults), (((0, (9, 7)),), faults), (((0, (7, 7)),), faults), (((0, (-1, 7)),), faults),
                             (((0, (True,)),), faults), (((0, 7),), faults), (((0,),), faults), (((True, (7,)),), faults),
@@ -392,7 +393,8 @@ class Shapes(unittest.TestCase):
         looks = SO[4]
         other = (CRAFT, (LIT, COLD, COLD, COLD), NOUGHTS)
         self.bent(looks, 1, ((), ((STOVE, None), (other, None)), ((STOVE, ("damp", 3)),), ((STOVE,),), ((STOVE, None, None),),
-                             ((STOVE[:2], None),), ([STOVE, None],), ((STOVE, 0),), (STOVE, None), ((STOVE, ()),)), False)
+                             ((STOVE[:2], None),), ([STOVE, None],), ((STOVE, None), (STOVE,)), ((STOVE, None), (STOVE[:2], None)),
+                             ((STOVE, None), (STOVE, 0)), ((STOVE, 0),), (STOVE, None), ((STOVE, ()),)), False)
         two = (((900, 1, 900), (5, 1, 6)),) + CRAFT[1:]
         wide = (two,) + STOVE[1:]
         self.bent(looks, 1, (((STOVE, None),), ((other, ("leak", 3)),) * 9, ((STOVE, None), (wide, None))), True)

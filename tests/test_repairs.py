@@ -208,6 +208,20 @@ class Repairs(unittest.TestCase):
         self.assertIsNone(loses_by(hall, (), (1, 1, 1), 9))
         self.assertIs(is_repair(hall, (), 1, 1, 9, 1), True)
 
+    def test_out_at_the_first_tick(self):
+        # 16 is 8 behind the air; with coal it is 28, and the earth has 14; without, it has 4 of 8.
+        works = works_of(part(16, (), "wd"), part(), part(), make=(((2, 1, 100),), 0, 8, 60, 99, 2))
+        fed = ((0, (("pieces", 1),), ("coal", (20,))),)
+        for many in (1, 2, 5):
+            self.assertEqual(loses_by(works, fed, (0, 1, 1), many), ("out", 1))
+        self.assertIsNone(least_loss(works, fed, 0, 1, 1))
+
+    def test_one_brick_lost(self):
+        for count in (1, 2):
+            orders = ORDERS[:2] + ((1, (("empty",),), ("set", ((0, count),))),)
+            self.assertEqual(loses_by(YARD, orders, (0, 1, 1), 2), ("lost", count))
+            self.assertIs(is_repair(YARD, orders, 0, 1, 2, 1), False)
+
     def test_works_that_is_out(self):
         works = works_of(part(3), part(3, (), "", ((0, 3, 0),)), part(2), make=MADE)
         for rules in ((), ORDERS):
@@ -219,6 +233,17 @@ class Repairs(unittest.TestCase):
             self.assertIsNone(longest_jump(works, rules, 3))
             self.assertEqual(least_loss(works, rules, 0, 2, 3), (0, 1))
             self.assertIsNone(least_loss(works, rules, 1, 2, 3))
+
+    def test_a_fire_of_all(self):
+        # It has no front: no RULE is used, nobody catches, and what is out of use is no matter.
+        works = works_of(part(9), part(9), part(9), make=MADE[:3] + (60,) + MADE[4:])
+        for number in range(3):
+            self.assertIsNone(loses_by(works, ORDERS, (number, 1, 3), 3))
+            self.assertEqual(repaired_run(works, ORDERS, (number, 1, 3), 3), rows_of(works, (), 3)[1:])
+            self.assertEqual(out_from(works, ORDERS, number, 2, 3), (1, 2))
+            self.assertIsNone(past_at(works, ORDERS, (number, 1, 1), 3))
+            self.assertEqual(jump_room(works, ORDERS, number, 3), ())
+        self.assertEqual((longest_jump(works, ORDERS, 3), put_out(works, ORDERS, 3)), (None, None))
 
     def test_no_rules(self):
         for works, _, many in cases(60):
@@ -273,6 +298,12 @@ class Jumps(unittest.TestCase):
             for first in (1, 2, 3):
                 rows = rows_of(works, (), 3)
                 self.assertEqual(past_at(works, (), (number, first, 1), 3), (catches(rows, number - 2, first) + [None])[0])
+
+    def test_the_longest_of_a_room_counts(self):
+        # 60 is 30 and 30, then 15 and 15, 8 and 7: 1 and 2 catch at tick 1.
+        works = works_of(part(60, (), "w"), part(), part(), part(0, (), "d"), make=MADE)
+        self.assertEqual([jump_room(works, (), number, 1) for number in range(4)], [(1, 2), (1,), (), (2,)])
+        self.assertEqual(longest_jump(works, (), 1), (2, 0))
 
     def test_put_out_against_all_sets(self):
         found = {}

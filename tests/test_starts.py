@@ -99,6 +99,14 @@ class Starts(unittest.TestCase):
         self.assertIs(is_start(STOVE, (), 3, (1, (0, 0, 8))), True)
         self.assertIs(is_start(STOVE, (), 2, (1, (0, 0, 8))), False)
 
+    def test_a_fire_of_all(self):
+        works = works_of(part(9), part(9), part(9), make=MADE)
+        for rows in ((), (0, 5), (30,)):
+            self.assertIsNone(fails_at(works, ((0, (), ("brick",)),), (1, rows), 2))
+            self.assertEqual(catches_at(works, (), (1, rows), 2), ())
+            self.assertEqual(first_round(works, (), (1, rows), 2), 1)
+        self.assertEqual((least_wood(works, (), 2, 3, 5), start_at(works, (), 3, 5)), (0, (0, 0)))
+
     def test_wood_ahead_of_rules(self):
         # Wood is put in at step 1: the RULES of this tick see the front.
         rules = ((0, (), ("brick",)),)
